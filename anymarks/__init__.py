@@ -1,0 +1,1 @@
+"""Anymarks: what is kept under ALL markings of worlds and arrows."""

@@ -1,0 +1,43 @@
+"""The interface: each name stands in its file, with its parameters in their order."""
+
+import importlib
+import inspect
+import unittest
+
+FUNCTIONS = {
+    "webs": {
+        "need_web": ["web"], "led_to": ["web", "way", "world"], "web_turned": ["web"],
+        "kinds_changed": ["web", "kinds"],
+    },
+    "sayings": {
+        "need_saying": ["saying"], "words_in": ["saying"], "deep_in": ["saying"],
+        "letters_in": ["saying"], "need_marking": ["web", "marking"],
+        "holding": ["web", "marking", "saying"], "holds": ["web", "marking", "saying", "world"],
+        "put_in": ["saying", "letter", "other"], "renamed": ["saying", "letters"],
+    },
+    "inward": {
+        "inward": ["saying"], "turned_about": ["saying"], "is_positive": ["saying"],
+        "is_negative": ["saying"],
+    },
+}
+
+
+class TestInterface(unittest.TestCase):
+    def test_functions(self):
+        for file, functions in FUNCTIONS.items():
+            module = importlib.import_module(f"anymarks.{file}")
+            for name, parameters in functions.items():
+                with self.subTest(name):
+                    function = getattr(module, name)
+                    self.assertTrue(inspect.isfunction(function))
+                    self.assertEqual(function.__module__, f"anymarks.{file}")
+                    self.assertEqual(function.__name__, name)
+                    found = inspect.signature(function).parameters
+                    self.assertEqual(list(found), parameters)
+                    for parameter in found.values():
+                        self.assertEqual(parameter.kind, parameter.POSITIONAL_OR_KEYWORD)
+                        self.assertIs(parameter.default, parameter.empty)
+
+
+if __name__ == "__main__":
+    unittest.main()
