@@ -8,41 +8,42 @@ TURNED = {"yes": "no", "no": "yes", "and": "or", "or": "and", "each": "some", "s
 
 def inward(saying):
     """Return the saying turned inward."""
-    return _turned(need_saying(saying), False)
+    return turned(need_saying(saying), False)
 
 
 def turned_about(saying):
     """Return not of the saying, turned inward."""
-    return _turned(need_saying(saying), True)
+    return turned(need_saying(saying), True)
 
 
-def _turned(saying, beneath):
+def turned(saying, beneath):
     """Return a saying turned inward, or, if it stands beneath a not, not of it so."""
     word = saying[0]
     if word == "letter":
         return ("not", saying) if beneath else saying
     if word == "not":
-        return _turned(saying[1], not beneath)
+        return turned(saying[1], not beneath)
     if word == "gives":
         joint = "and" if beneath else "or"
-        return (joint, _turned(saying[1], not beneath), _turned(saying[2], beneath))
+        return (joint, turned(saying[1], not beneath), turned(saying[2], beneath))
     parts = parts_of(saying)
     between = saying[1:len(saying) - len(parts)]
     outer = TURNED[word] if beneath else word
-    return (outer,) + between + tuple([_turned(part, beneath) for part in parts])
+    return (outer,) + between + tuple([turned(part, beneath) for part in parts])
 
 
 def is_positive(saying):
     """Return whether the saying, turned inward, has no not."""
-    return "not" not in _inward_words(saying)
+    return "not" not in [word[0] for word in words_of(inward(saying))]
 
 
 def is_negative(saying):
     """Return whether in the saying, turned inward, each letter stands beneath a not."""
-    found = _inward_words(saying)
+    return all_denied(inward(saying))
+
+
+def all_denied(saying):
+    """Tell whether an inward saying is negative."""
+    found = [word[0] for word in words_of(saying)]
     # Turned inward each not stands at just one letter: so counting them is enough.
     return found.count("not") == found.count("letter")
-
-
-def _inward_words(saying):
-    return [word[0] for word in words_of(inward(saying))]

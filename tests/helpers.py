@@ -3,7 +3,8 @@
 import itertools
 import random
 
-from anymarks.errors import MarkError
+from anymarks.errors import MarkError, NoRow, NoShape
+from anymarks.inward import turned_about
 
 P, Q, R = ("letter", 0), ("letter", 1), ("letter", 2)
 YES, NO = ("yes",), ("no",)
@@ -106,6 +107,19 @@ class Refusals:
             self.assertIs(error.value, value)
         else:
             self.assertEqual(getattr(error, attribute), value)
+
+    def out_of_shape(self, value, letters, function, *args, **named):
+        """Asks for NoShape: with a piece, which may be made anew, or with letters."""
+        error = refusal(lambda: function(*args, **named))
+        self.assertIs(type(error), NoShape)
+        self.assertEqual(list(vars(error)), ["value", "letters"])
+        self.assertEqual((error.value, error.letters), (value, letters))
+        self.plain(error.letters)
+
+    def no_row(self, function, *args, **named):
+        error = refusal(lambda: function(*args, **named))
+        self.assertIs(type(error), NoRow)
+        self.assertEqual(vars(error), {})
 
     def plain(self, value):
         """Results are made of tuples, integers, texts, True and False alone."""
@@ -230,3 +244,274 @@ def bush(words):
         return chain(words)
     first = (words - 1) // 2
     return ("and", bush(first), bush(words - 1 - first))
+
+
+def markings_of(web, saying):
+    """All markings of the letters in a saying, with () for those between them."""
+    letters = sorted(plain_letters(saying))
+    for worlds in all_markings(web[0], len(letters)):
+        marking = [()] * (max(letters, default=-1) + 1)
+        for letter, item in zip(letters, worlds):
+            marking[letter] = item
+        yield tuple(marking)
+
+
+def plain_failing(web, saying):
+    """For each world the least marking under which the saying fails there, of all markings."""
+    found = [None] * web[0]
+    for marking in markings_of(web, saying):
+        for world in range(web[0]):
+            if not plainly_holds(web, marking, saying, world):
+                found[world] = min(found[world] or (((99,),) * 9), marking)
+    return found
+
+
+def plainly_negative(saying, beneath=False):
+    """Whether each letter of an inward saying stands beneath a not."""
+    if saying[0] == "letter":
+        return beneath
+    return all(plainly_negative(part, saying[0] == "not") for part in saying if isinstance(part, tuple))
+
+
+def plain_pieces(saying):
+    """The pieces of an inward saying, as point 6 of the document tells them."""
+    if plainly_negative(saying):
+        return [saying]
+    if saying[0] == "and":
+        return [*plain_pieces(saying[1]), *plain_pieces(saying[2])]
+    if saying[0] == "each":
+        return [("each", saying[1], piece) for piece in plain_pieces(saying[2])]
+    if saying[0] == "or":
+        first, second = saying[1:]
+        if plainly_negative(first):
+            return [("or", first, piece) for piece in plain_pieces(second)]
+        if plainly_negative(second):
+            return [("or", piece, second) for piece in plain_pieces(first)]
+    return [saying]
+
+
+def plain_box(saying):
+    """(HEAD, needed letters) of an inward saying that is a box, else None."""
+    if saying[0] == "letter":
+        return saying[1], set()
+    if saying[0] == "each":
+        return plain_box(saying[2])
+    if saying[0] == "or":
+        for negative, other in (saying[1:], saying[:0:-1]):
+            box = plain_box(other)
+            if plainly_negative(negative) and box:
+                return box[0], box[1] | plain_letters(negative)
+    return None
+
+
+def plain_letters(saying):
+    """The set of the letters in a saying."""
+    if saying[0] == "letter":
+        return {saying[1]}
+    return set().union(*[plain_letters(part) for part in saying if isinstance(part, tuple)])
+
+
+def plain_choices(saying):
+    """For each row of choices the list of what the walk meets in an inward saying."""
+    if plainly_negative(saying):
+        return [[("end", turned_about(saying))]]
+    if saying[0] == "letter":
+        return [[("box", saying)]]
+    if saying[0] == "or":
+        return [*plain_choices(saying[1]), *plain_choices(saying[2])]
+    if saying[0] == "some":
+        return [[("world", saying[1], inner)] for inner in plain_choices(saying[2])]
+    if saying[0] == "and":
+        return [
+            first + second
+            for first in plain_choices(saying[1]) for second in plain_choices(saying[2])
+        ]
+    pieces = plain_pieces(saying)
+    return [[
+        ("end", turned_about(piece)) if plainly_negative(piece) else ("box", piece) for piece in pieces
+    ]]
+
+
+def plain_rows(saying):
+    """All rows of choices of a saying as (TREE, ENDS, BOXES); "wrong" with a piece if one is none."""
+    about = turned_about(saying)
+    wrong = plain_wrong_pieces(about)
+    if wrong:
+        return "wrong", wrong[0]
+    rows = []
+    for chosen in plain_choices(about):
+        tree, ends, boxes = [], [[]], []
+        plainly_numbered(chosen, 0, tree, ends, boxes)
+        rows.append((tuple(tree), tuple(map(tuple, ends)), tuple(boxes)))
+    return rows
+
+
+def plain_wrong_pieces(saying):
+    """The pieces met on the walk through an inward saying that are neither negative nor boxes."""
+    if plainly_negative(saying) or saying[0] == "letter":
+        return []
+    if saying[0] == "each":
+        pieces = plain_pieces(saying)
+        return [piece for piece in pieces if not plainly_negative(piece) and plain_box(piece) is None]
+    return [piece for part in saying if isinstance(part, tuple) for piece in plain_wrong_pieces(part)]
+
+
+def plainly_numbered(met, place, tree, ends, boxes):
+    """Number the worlds of a row of choices, and put its ends and boxes at them."""
+    for word, *told in met:
+        if word == "end":
+            ends[place].append(told[0])
+        elif word == "box":
+            boxes.append((place, told[0]))
+        else:
+            tree.append((place, told[0]))
+            ends.append([])
+            plainly_numbered(told[1], len(tree), tree, ends, boxes)
+
+
+def plain_needs(row):
+    """For each letter that heads a box of a row the set of the letters needed for it."""
+    needs = {}
+    for _, box in row[2]:
+        head, needed = plain_box(box)
+        needs[head] = needs.get(head, set()) | needed
+    return needs
+
+
+def plain_circles(row):
+    """The letters that are needed for themselves in a row."""
+    needs = plain_needs(row)
+    reached = {letter: set(needed) for letter, needed in needs.items()}
+    for _ in range(8):
+        for letter, found in reached.items():
+            for other in list(found):
+                found |= needs.get(other, set())
+    return tuple(sorted(letter for letter, found in reached.items() if letter in found))
+
+
+def plainly_fact_holds(web, fact, worlds, world):
+    """Whether a fact holds at a world, as point 5 of the document tells it."""
+    word = fact[0]
+    if word in ("yes", "no"):
+        return word == "yes"
+    if word == "here":
+        return worlds[fact[1]] == world
+    if word in ("and", "or"):
+        found = [plainly_fact_holds(web, part, worlds, world) for part in fact[1:]]
+        return all(found) if word == "and" else any(found)
+    found = [plainly_fact_holds(web, fact[2], worlds, there) for there in plainly_led(web, fact[1], world)]
+    return all(found) if word == "each" else any(found)
+
+
+def plain_world_rows(web, tree, world):
+    """All rows of worlds along a TREE, ascending."""
+    rows = [(world,)]
+    for parent, way in tree:
+        rows = [(*row, there) for row in rows for there in plainly_led(web, way, row[parent])]
+    return rows
+
+
+def plainly_breaks(web, form, world):
+    """(CLAUSE, WORLDS) of the first clause that does not hold, None without one."""
+    for number, (tree, facts) in enumerate(form):
+        for row in plain_world_rows(web, tree, world):
+            own = zip(facts, row)
+            if not any(plainly_fact_holds(web, fact, row, there) for fact, there in own):
+                return number, row
+    return None
+
+
+def fact_by(chance, deep, many):
+    """A fact over so many worlds, at most so deep."""
+    if deep == 1 or chance.random() < 0.2:
+        return chance.choice([("here", chance.randrange(many))] * 5 + [YES, NO, NO])
+    word = chance.choice(("and", "or", "each", "some", "some"))
+    if word in ("each", "some"):
+        return (word, chance.choice(WAYS), fact_by(chance, deep - 1, many))
+    return (word, fact_by(chance, deep - 1, many), fact_by(chance, deep - 1, many))
+
+
+def tree_by(chance, many):
+    """A TREE of so many pairs."""
+    tree = []
+    for place in range(many):
+        parents = [place]
+        while parents[-1] > 0:
+            parents.append(tree[parents[-1] - 1][0])
+        tree.append((chance.choice(parents), chance.choice(WAYS)))
+    return tuple(tree)
+
+
+def form_by(chance, clauses=2, branches=2, deep=3):
+    """A form with at most so many clauses, of at most so many worlds beside x_0."""
+    form = []
+    for _ in range(chance.randint(1, clauses)):
+        tree = tree_by(chance, chance.randint(0, branches))
+        many = len(tree) + 1
+        facts = [NO if chance.random() < 0.3 else fact_by(chance, deep, many) for _ in range(many)]
+        form.append((tree, tuple(facts)))
+    return tuple(form)
+
+
+def tall_fact(deep, end=("here", 0)):
+    """A fact so deep, of as many words."""
+    for step in range(deep - 1):
+        end = (("some", "each")[step % 2], step % 6 - 3, end)
+    return end
+
+
+def wide_fact(words):
+    """A fact of so many words that is not deep."""
+    if words <= 2:
+        return tall_fact(words)
+    first = (words - 1) // 2
+    return ("or", wide_fact(first), wide_fact(words - 1 - first))
+
+
+def shaped_by(chance, deep=4, letters=3):
+    """A saying with no piece out of shape, perhaps with letters needed for themselves."""
+    met = met_by(chance, deep, letters)
+    kind = chance.randrange(3)
+    if kind == 0 and met[0] == "and":
+        return ("gives", met[1], turned_about(met[2]))
+    return turned_about(met) if kind == 1 else ("not", met)
+
+
+def met_by(chance, deep, letters):
+    """What the walk may meet: not turned inward throughout, but with no piece out of shape."""
+    kind = chance.randrange(9) if deep > 1 else chance.choice((0, 1))
+    if kind == 0:
+        return ("not", positive_by(chance, min(deep, 3), letters))
+    if kind == 1:
+        return box_by(chance, 1, letters)
+    if kind in (2, 3):
+        return ("and", met_by(chance, deep - 1, letters), met_by(chance, deep - 1, letters))
+    if kind == 4:
+        return ("or", met_by(chance, deep - 1, letters), met_by(chance, deep - 1, letters))
+    if kind in (5, 6):
+        return ("some", chance.choice(WAYS), met_by(chance, deep - 1, letters))
+    if kind == 7:
+        return ("each", chance.choice(WAYS), ("and", box_by(chance, deep, letters), box_by(chance, deep, letters)))
+    return ("each", chance.choice(WAYS), box_by(chance, deep, letters))
+
+
+def box_by(chance, deep, letters):
+    """A box, perhaps with "gives" in the place of "or"."""
+    if deep == 1:
+        return ("letter", chance.randrange(letters))
+    kind = chance.randrange(5)
+    inner = box_by(chance, deep - 1, letters)
+    if kind < 2:
+        return ("each", chance.choice(WAYS), inner)
+    needed = positive_by(chance, 2, letters)
+    return (("gives", needed, inner), ("or", ("not", needed), inner), ("or", inner, ("not", needed)))[kind - 2]
+
+
+def positive_by(chance, deep, letters):
+    """A saying without not."""
+    if deep == 1 or chance.random() < 0.2:
+        return chance.choice([("letter", chance.randrange(letters))] * 6 + [YES, NO])
+    word = chance.choice(("and", "or", "each", "some"))
+    if word in ("each", "some"):
+        return (word, chance.choice(WAYS), positive_by(chance, deep - 1, letters))
+    return (word, positive_by(chance, deep - 1, letters), positive_by(chance, deep - 1, letters))

@@ -15,6 +15,8 @@ LIBRARY = {
     "heapq": {"heappush", "heappop"}, "itertools": {"product", "combinations", "permutations", "chain"},
     "math": {"gcd", "isqrt", "comb"}, "collections": {"deque", "defaultdict"},
 }
+ON_THE_SPOT = {"range", "zip", "enumerate", "reversed"}
+TAKE_THEM = {"list", "tuple", "dict", "sorted", "sum", "any", "all", "enumerate", "zip", "min", "max", "len"}
 LEFT_OUT = (
     ast.AsyncFunctionDef, ast.AsyncFor, ast.AsyncWith, ast.Await, ast.Import, ast.Global, ast.Div,
 )
@@ -97,6 +99,39 @@ class TestRules(unittest.TestCase):
         for name, node in self.each_node(ast.FunctionDef, ast.ClassDef, ast.arg):
             told = node.arg if isinstance(node, ast.arg) else node.name
             self.assertNotIn(told, every, f"{name}:{node.lineno}")
+
+    def test_what_is_gone_through_on_the_spot(self):
+        for path in FILES:
+            tree = tree_of(path)
+            let = set()
+            for node in ast.walk(tree):
+                if isinstance(node, (ast.For, ast.comprehension)):
+                    let.add(node.iter)
+                elif isinstance(node, ast.Call) and getattr(node.func, "id", "") in TAKE_THEM | ON_THE_SPOT:
+                    let.update(node.args)
+                elif isinstance(node, ast.Compare):
+                    let.update(node.comparators)
+            for node in ast.walk(tree):
+                named = isinstance(node, ast.Call) and getattr(node.func, "id", "") in ON_THE_SPOT
+                asked = isinstance(node, ast.Call) and getattr(node.func, "attr", "") in ("items", "keys", "values")
+                if named or asked:
+                    self.assertIn(node, let, f"{path.name}:{node.lineno}")
+                if isinstance(node, ast.GeneratorExp):
+                    self.fail(f"{path.name}:{node.lineno}")
+
+    def test_sets_are_not_kept(self):
+        for path in FILES:
+            tree = tree_of(path)
+            let = set()
+            for node in ast.walk(tree):
+                if isinstance(node, ast.Call) and getattr(node.func, "id", "") in ("sorted", "len"):
+                    let.update(node.args)
+                elif isinstance(node, ast.Compare):
+                    let.update(node.comparators)
+            for node in ast.walk(tree):
+                made = isinstance(node, ast.Call) and getattr(node.func, "id", "") in ("set", "frozenset")
+                if made or isinstance(node, (ast.Set, ast.SetComp)):
+                    self.assertIn(node, let, f"{path.name}:{node.lineno}")
 
     def test_modules_hold_definitions_alone(self):
         for path in FILES:
