@@ -19,6 +19,33 @@ FUNCTIONS = {
         "inward": ["saying"], "turned_about": ["saying"], "is_positive": ["saying"],
         "is_negative": ["saying"],
     },
+    "kept": {
+        "tried": ["web", "saying"], "is_kept": ["web", "saying", "world"],
+        "fails_by": ["web", "saying", "world"],
+    },
+    "walks": {
+        "pieces_of": ["saying"], "is_box": ["saying"], "head_of": ["saying"], "needed_in": ["saying"],
+    },
+    "shapes": {
+        "count_rows": ["saying"], "row_of": ["saying", "number"], "needing": ["saying", "number"],
+        "needing_order": ["saying", "number"], "need_shape": ["saying"], "in_shape": ["saying"],
+    },
+    "forms": {
+        "need_fact": ["fact", "many"], "need_form": ["form"], "fact_worlds": ["web", "fact", "worlds"],
+        "rows_at": ["web", "clause", "world"], "form_holds": ["web", "form", "world"],
+        "form_worlds": ["web", "form"], "breaks": ["web", "form", "world"],
+    },
+    "formdeeds": {
+        "both_forms": ["form", "other"], "either_forms": ["form", "other"], "under_way": ["way", "form"],
+    },
+    "there": {
+        "form_of": ["saying"], "facts_of": ["saying", "number"], "kept_worlds": ["web", "saying"],
+        "same_forms": ["saying", "other"],
+    },
+    "failing": {
+        "failing": ["web", "saying", "world"], "is_failing": ["web", "saying", "world", "value"],
+    },
+    "back": {"saying_of": ["form"], "bared": ["saying"]},
 }
 
 

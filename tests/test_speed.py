@@ -3,12 +3,21 @@
 import time
 import unittest
 
+from anymarks.back import bared, saying_of
+from anymarks.errors import NoShape, TooGreat
+from anymarks.failing import failing, is_failing
+from anymarks.formdeeds import both_forms, either_forms, under_way
+from anymarks.forms import breaks, fact_worlds, form_holds, form_worlds, need_form, rows_at
 from anymarks.inward import inward, is_negative, is_positive, turned_about
+from anymarks.kept import fails_by, is_kept, tried
 from anymarks.sayings import (
     deep_in, holding, holds, letters_in, need_marking, need_saying, put_in, renamed, words_in,
 )
+from anymarks.shapes import count_rows, in_shape, need_shape, needing, needing_order, row_of
+from anymarks.there import facts_of, form_of, kept_worlds, same_forms
+from anymarks.walks import head_of, is_box, needed_in, pieces_of
 from anymarks.webs import kinds_changed, led_to, need_web, web_turned
-from tests.helpers import GREAT_WEB, P, bush, chain
+from tests.helpers import GREAT_WEB, NO, P, Q, R, YES, bush, chain, tall_fact, wide_fact
 
 FULL_WEB = (200, tuple(sorted([
     (kind, start, (7 * start + step) % 200)
@@ -37,6 +46,30 @@ def tall():
     return saying
 
 
+def halved(word, things):
+    """Things put together in their order, not deep."""
+    if len(things) == 1:
+        return things[0]
+    half = len(things) // 2
+    return (word, halved(word, things[:half]), halved(word, things[half:]))
+
+
+def marked(letters):
+    """What the first so many letters stand in, and is not kept."""
+    return halved("and", [("letter", letter) for letter in range(letters)] * 2)
+
+
+def renamed_away(saying):
+    """A saying with "yes" in the stead of its letters."""
+    if saying[0] == "letter":
+        return YES
+    return tuple(renamed_away(part) if isinstance(part, tuple) else part for part in saying)
+
+
+def number_of_ones(number):
+    return f"{number:b}".count("1")
+
+
 class TestSpeed(unittest.TestCase):
     def setUp(self):
         self.begun = time.perf_counter()
@@ -63,6 +96,134 @@ class TestSpeed(unittest.TestCase):
                 need_marking(web, MARKING)
                 holding(web, MARKING, saying)
                 holds(web, MARKING, saying, 199)
+
+    def test_all_markings(self):
+        for size, letters in ((12, 1), (6, 2), (4, 3), (3, 4), (2, 6), (1, 8)):
+            web = (size, tuple((0, start, end) for start in range(size) for end in range(size)))
+            saying = ("or", wide(360), marked(letters))
+            tried(web, saying)
+            for world in range(size):
+                if not is_kept(web, saying, world):
+                    fails_by(web, saying, world)
+        for web in (GREAT_WEB, FULL_WEB):
+            saying = renamed_away(tall())
+            self.assertEqual(tried(web, saying), holding(web, (), saying))
+            self.assertIs(is_kept(web, saying, 199), holds(web, (), saying, 199))
+
+    def test_walks(self):
+        held = P
+        for step in range(38):
+            held = ("each", 0, held) if step % 3 else ("or", held, ("not", ("letter", 1 + step % 7)))
+        self.assertEqual((is_box(held), head_of(held), needed_in(held)), (True, 0, (1, 2, 3, 4, 5, 6, 7)))
+        spread = halved("and", [P, Q] * 70)
+        for _ in range(15):
+            spread = ("or", spread, ("and", ("not", P), ("not", R)))
+        self.assertEqual(len(pieces_of(("each", 0, spread))), 140)
+        for saying in (wide(400), tall(), chain(40), bush(400), spread):
+            pieces_of(saying)
+            is_box(saying)
+
+    def test_rows_of_choices(self):
+        choice = halved("or", [("each", 0, ("or", ("not", P), Q)), ("and", P, R)])
+        many = ("not", halved("and", [choice] * 30))
+        self.assertEqual(count_rows(many), 2 ** 30)
+        for number in (0, 1234567, 2 ** 30 - 1):
+            self.assertEqual(len(row_of(many, number)[2]), 30 + number_of_ones(number))
+            needing(many, number)
+            needing_order(many, number)
+        wide_row = halved("and", [("some", 0, ("and", P, Q)) for _ in range(7)] + [("each", 0, ("and", P, R))] * 30)
+        sixty = ("not", ("and", wide_row, halved("or", [P] * 60)))
+        self.assertIs(need_shape(sixty), sixty)
+        self.assertIs(in_shape(sixty), True)
+
+    def test_rows_of_worlds(self):
+        line = tuple((place, 0) for place in range(5))
+        ring = (200, tuple(sorted((0, world, (7 * world + 31 * step) % 200) for world in range(200) for step in range(5))))
+        back = ("here", 0)
+        for _ in range(4):
+            back = ("some", -1, back)
+        for facts in (
+                (NO,) * 5 + (back,), (NO,) * 6, (NO,) * 5 + (("or", ("here", 5), ("and", ("here", 0), ("here", 1))),)):
+            clause = (line, facts)
+            self.assertEqual(rows_at(ring, clause, 0), 3125)
+            form_worlds(ring, (clause,))
+        form_worlds(ring, ((line, (NO,) * 5 + (YES,)),) * 60)
+        fan = (200, tuple((0, 0, 1 + step) for step in range(70)) + tuple((1, 0, 100 + step) for step in range(71)))
+        spread = ((0, 0), (0, 1))
+        for facts in ((NO, NO, NO), (NO, ("here", 1), NO), (wide_fact(660), wide_fact(660), wide_fact(660))):
+            form = ((spread, facts),)
+            self.assertEqual(rows_at(fan, form[0], 0), 4970)
+            form_worlds(fan, form)
+            if not form_holds(fan, form, 0):
+                breaks(fan, form, 0)
+
+    def test_facts(self):
+        for web in (GREAT_WEB, FULL_WEB):
+            fact_worlds(web, wide_fact(2000), (199,))
+            fact_worlds(web, tall_fact(100), (0,) * 8)
+            form = tuple([((), (wide_fact(33),))] * 60)
+            self.assertIs(need_form(form), form)
+            form_worlds(web, form)
+
+    def test_rows_without_number(self):
+        # None of the 199 ** 6 beginnings goes on to a whole row.
+        web = (200, tuple((0, 0, 1 + step) for step in range(199)))
+        form = ((((0, 0),) * 6 + ((0, 1),), (NO,) * 7 + (("here", 6),)),)
+        self.assertEqual(form_worlds(web, form), tuple(range(200)))
+
+    def test_forms_read_off(self):
+        line = P
+        for _ in range(5):
+            line = ("some", 0, line)
+        ring = (200, tuple(sorted((0, world, (world + step) % 200) for world in range(200) for step in range(5))))
+        spread = ("gives", line, ("each", 0, ("some", -1, ("or", P, Q))))
+        self.assertEqual(len(kept_worlds(ring, spread)), 0)
+        clause, worlds, marking = failing(ring, spread, 199)
+        self.assertEqual((clause, len(worlds)), (0, 6))
+        self.assertIs(is_failing(ring, spread, 199, marking), True)
+        sixty = ("not", ("and", halved("or", [P] * 60), ("and", line, ("each", 0, ("or", Q, ("not", P))))))
+        self.assertEqual(len(form_of(sixty)), 60)
+        self.assertEqual(kept_worlds(ring, sixty), ())
+        self.assertEqual(failing(ring, sixty, 7)[0], 0)
+        self.assertIs(same_forms(sixty, sixty), True)
+        facts_of(sixty, 59)
+        held = ("not", ("and", sixty[1], ("not", ("each", 0, ("some", -1, P)))))
+        self.assertEqual(len(kept_worlds(ring, held)), 200)
+
+    def test_far_too_great_forms(self):
+        boxes = P
+        for letter in range(7):
+            needed = ("and", ("letter", letter), ("letter", letter))
+            needed = ("and", ("and", needed, needed), ("and", needed, needed))
+            boxes = ("and", boxes, ("each", 0, ("gives", needed, ("letter", letter + 1))))
+        saying = ("gives", boxes, ("some", 0, ("letter", 7)))
+        for reader in (form_of, bared, lambda one: kept_worlds(GREAT_WEB, one), lambda one: facts_of(one, 0)):
+            with self.assertRaises(TooGreat):
+                reader(saying)
+        self.assertIs(need_shape(saying), saying)
+        told = failing(GREAT_WEB, ("gives", boxes, ("some", 0, P)), 199)
+        self.assertEqual(told[2][0], (199,))
+        for saying in (wide(400), tall(), chain(40), bush(400)):
+            for reader in (form_of, bared, lambda one: kept_worlds(GREAT_WEB, one)):
+                try:
+                    reader(saying)
+                except (NoShape, TooGreat):
+                    pass
+
+    def test_forms_of_forms(self):
+        line = tuple((place, 0) for place in range(5))
+        form = tuple((line[:2], (NO, ("some", way, ("here", 0)), wide_fact(12))) for way in range(-3, 3))
+        told = either_forms(form, form + form[:4])
+        self.assertEqual((len(told), len(told[0][1])), (60, 5))
+        self.assertEqual(len(both_forms(told[:30], told[30:])), 60)
+        self.assertEqual(len(under_way(-1, told)), 60)
+        for web in (GREAT_WEB, FULL_WEB):
+            form_worlds(web, told)
+        with self.assertRaises(TooGreat):
+            saying_of(told)
+        with self.assertRaises(TooGreat):
+            either_forms(((line, (tall_fact(100),) * 6),) * 3, ((line[:2], (tall_fact(100),) * 3),) * 20)
+        saying_of(((line, (NO,) * 6),) * 10)
 
     def test_they_are_the_greatest(self):
         self.assertEqual((words_in(tall()), deep_in(tall())), (400, 40))

@@ -1,0 +1,72 @@
+"""From a form back to a saying that is kept just where it holds."""
+
+from anymarks.errors import TooGreat
+from anymarks.forms import NOWHERE, need_form
+from anymarks.sayings import LETTERS, MOST_DEEP, MOST_WORDS, deep_with, joined, replaced, words_of
+from anymarks.there import form_of
+
+
+def saying_of(form):
+    """Return a saying that is kept just where the form holds."""
+    return asking_saying([(tree, _asked(facts)) for tree, facts in need_form(form)])
+
+
+def _asked(facts):
+    """Return for each world the list of what is asked there itself."""
+    letters = [("letter", place) for place in range(LETTERS)]
+    denied = [[("not", replaced(fact, "here", letters))] if fact != NOWHERE else [] for fact in facts]
+    return [[letters[place]] + parts for place, parts in enumerate(denied)]
+
+
+def asking_saying(clauses):
+    """Return the saying that for each clause, (TREE, ASKED), denies a row with all that is asked.
+
+    ASKED has for each world the list of what is asked there; the sizes are counted ahead.
+    """
+    sizes = []
+    for tree, asked in clauses:
+        own = [[(len(words_of(part)), deep_with(part, [1] * LETTERS)) for part in parts] for parts in asked]
+        sizes.append(_one_more(_size_at(tree, own, 0)))
+    words, deep = _joined_size(sizes)
+    if words > MOST_WORDS:
+        raise TooGreat(MOST_WORDS)
+    if deep > MOST_DEEP:
+        raise TooGreat(MOST_DEEP)
+    return joined("and", [("not", _asked_at(tree, asked, 0)) for tree, asked in clauses])
+
+
+def _children(tree, place):
+    """Return the list of the pairs (world, way) of the worlds with this parent."""
+    return [(child, way) for child, (parent, way) in enumerate(tree, start=1) if parent == place]
+
+
+def _asked_at(tree, asked, place):
+    """Return what is asked at a world, there itself and along the branches from it."""
+    further = [("some", way, _asked_at(tree, asked, child)) for child, way in _children(tree, place)]
+    return joined("and", asked[place] + further)
+
+
+def _size_at(tree, sizes, place):
+    """Return (WORDS, DEEP) of what is asked at a world, of those of what is asked there itself."""
+    further = [_one_more(_size_at(tree, sizes, child)) for child, _ in _children(tree, place)]
+    return _joined_size(sizes[place] + further)
+
+
+def _one_more(size):
+    """Return the size with a word put ahead."""
+    words, deep = size
+    return (words + 1, deep + 1)
+
+
+def _joined_size(sizes):
+    """Return the size of what has these sizes, put together to the right."""
+    words, deep = sizes[-1]
+    for first_words, first_deep in sizes[:-1][::-1]:
+        words = first_words + 1 + words
+        deep = 1 + max(first_deep, deep)
+    return (words, deep)
+
+
+def bared(saying):
+    """Return the saying of the saying's form."""
+    return saying_of(form_of(saying))
