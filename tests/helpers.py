@@ -495,6 +495,33 @@ def met_by(chance, deep, letters):
     return ("each", chance.choice(WAYS), box_by(chance, deep, letters))
 
 
+def halved(word, things):
+    """Things put together in their order, not deep."""
+    if len(things) == 1:
+        return things[0]
+    half = len(things) // 2
+    return (word, halved(word, things[:half]), halved(word, things[half:]))
+
+
+def eaches(many, inner):
+    """So many eaches, the way 0 each, and what stands beneath them."""
+    for _ in range(many):
+        inner = ("each", 0, inner)
+    return inner
+
+
+def somes(many, inner):
+    """So many somes, the way 0 each, and what stands beneath them."""
+    for _ in range(many):
+        inner = ("some", 0, inner)
+    return inner
+
+
+def needs(positive, head):
+    """A box of the head that needs the letters of a positive saying."""
+    return ("each", 0, ("gives", positive, head))
+
+
 def box_by(chance, deep, letters):
     """A box, perhaps with "gives" in the place of "or"."""
     if deep == 1:

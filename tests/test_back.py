@@ -11,8 +11,8 @@ from anymarks.sayings import deep_in, need_saying, words_in
 from anymarks.shapes import in_shape, need_shape
 from anymarks.there import form_of, kept_worlds, same_forms
 from tests.helpers import (
-    NO, P, Q, R, YES, Refusals, Touchy, bush, chain, form_by, no_tuples, plain_failing, plain_letters, shaped_by,
-    small_webs, tall_fact, tree_by, wide_fact,
+    NO, P, Q, R, YES, Refusals, Touchy, bush, chain, form_by, halved, no_tuples, plain_failing, plain_letters,
+    shaped_by, small_webs, tall_fact, tree_by, wide_fact,
 )
 
 LETTERS = [("letter", letter) for letter in range(8)]
@@ -25,14 +25,6 @@ THROUGH_FORM = ((((0, 0), (1, 0)), (NO, NO, ("some", -1, HERE))),)
 THROUGH = ("not", ("and", P, ("some", 0, ("and", Q, ("some", 0, ("and", R, ("not", ("some", -1, P))))))))
 MCKINSEY = ("gives", ("each", 0, ("some", 0, P)), ("some", 0, ("each", 0, P)))
 OUT = ("gives", ("each", 0, ("gives", ("each", 0, P), P)), ("each", 0, P))
-
-
-def halved(word, things):
-    """Things put together in their order, not deep."""
-    if len(things) == 1:
-        return things[0]
-    half = len(things) // 2
-    return (word, halved(word, things[:half]), halved(word, things[half:]))
 
 
 def plain_saying(form):
@@ -265,7 +257,8 @@ class TestRefusals(Refusals, unittest.TestCase):
             self.refused(BadForm, "place", (0, 1, 0), saying_of, (((), (value,)), 5))
         for form, place in (
                 ((EMPTY,) * 61, ()), ((((1, 0),), (NO, NO)), (0,)), (((((1, 0),), (NO, NO)),), (0, 0, 0)),
-                (((((0, 3),), (NO, NO)),), (0, 0, 0)), ((((), (P,)),), (0, 1, 0)), ((((), (("here", 1),)),), (0, 1, 0))):
+                (((((0, 3),), (NO, NO)),), (0, 0, 0)), ((((), (P,)),), (0, 1, 0)),
+                ((((), (("here", 1),)),), (0, 1, 0))):
             self.refused(BadForm, "place", place, saying_of, form)
         for fact, most in ((tall_fact(101), 100), (wide_fact(2001), 2000)):
             self.refused(TooGreat, "most", most, saying_of, (((), (fact,)),))

@@ -9,11 +9,12 @@ from anymarks.forms import breaks, fact_worlds
 from anymarks.shapes import in_shape, row_of
 from anymarks.there import facts_of, form_of
 from tests.helpers import (
-    GREAT_WEB, LINE, NO, P, Q, R, YES, OddInteger, OddTuple, Refusals, Touchy, bush, chain, markings_of,
-    no_numbers, no_tuples, plain_failing, plain_letters, plainly_holds, saying_by, shaped_by, small_webs,
+    GREAT_WEB, LINE, NO, P, Q, R, YES, OddInteger, OddTuple, Refusals, Touchy, bush, chain, eaches, halved,
+    markings_of, needs, no_numbers, no_tuples, plain_failing, plain_letters, plainly_holds, saying_by, shaped_by,
+    small_webs, somes,
 )
 
-NOT_P, NOT_Q, NOT_R = ("not", P), ("not", Q), ("not", R)
+NOT_P = ("not", P)
 LETTERS = [("letter", letter) for letter in range(8)]
 LOOP = ("gives", ("each", 0, P), P)
 MEET = ("gives", ("some", 0, ("each", 0, P)), ("each", 0, ("some", 0, P)))
@@ -28,10 +29,6 @@ def is_in_shape(saying):
         return in_shape(saying)
     except TooGreat:
         return False
-
-
-def needs(positive, head):
-    return ("each", 0, ("gives", positive, head))
 
 
 def some_cases(chance, many):
@@ -91,9 +88,9 @@ class TestFailing(Refusals, unittest.TestCase):
         self.assertIs(is_failing(LINE, saying, 0, ((0, 1),) + ((1,),) * 7), True)
 
     def test_very_many_boxes(self):
-        boxes = wide_and([P] * 98 + [("each", 0, P)] + [P])
+        boxes = halved("and", [P] * 98 + [("each", 0, P)] + [P])
         self.assertEqual(failing(LINE, ("gives", boxes, Q), 0), (0, (0,), ((0, 1), ())))
-        self.assertEqual(failing(LINE, ("gives", wide_and([P] * 198), NO), 2), (0, (2,), ((2,),)))
+        self.assertEqual(failing(LINE, ("gives", halved("and", [P] * 198), NO), 2), (0, (2,), ((2,),)))
 
     def test_the_marking_makes_it_fail_and_is_the_least(self):
         chance = random.Random(91)
@@ -158,7 +155,8 @@ class TestIsFailing(Refusals, unittest.TestCase):
 
     def test_values_of_any_kind(self):
         values = [
-            *no_tuples(), [(0,)], ([0],), ((1, 0),), ((0, 0),), ((3,),), ((-1,),), ((),) * 9, ((True,),), ((0, OddInteger(1)),),
+            *no_tuples(), [(0,)], ([0],), ((1, 0),), ((0, 0),), ((3,),), ((-1,),), ((),) * 9,
+            ((True,),), ((0, OddInteger(1)),),
             (OddTuple((0,)),), ((0,), None), (0,), "no", ((0,), ((),)), OddTuple(((0,),)), ((Touchy(),),), {(0,): 1},
             *no_numbers(),
         ]
@@ -198,7 +196,7 @@ class TestRefusals(Refusals, unittest.TestCase):
             self.refused(TooGreat, "most", most, failing, LINE, saying, -1)
 
     def test_those_of_form_of_come_next(self):
-        self.refused(TooGreat, "most", 60, failing, LINE, ("not", wide_choice(61)), 0)
+        self.refused(TooGreat, "most", 60, failing, LINE, ("not", halved("or", [P] * 61)), 0)
         self.refused(TooGreat, "most", 8, failing, LINE, ("not", somes(8, P)), 0)
         self.out_of_shape(("each", 0, ("some", 0, P)), (), failing, LINE, MCKINSEY, 2)
         self.out_of_shape(None, (0,), failing, LINE, OUT, 2)
@@ -225,31 +223,6 @@ class TestRefusals(Refusals, unittest.TestCase):
             for web in (LINE, GREAT_WEB):
                 for world in range(3):
                     self.no_row(failing, web, saying, world)
-
-
-def wide_and(things):
-    if len(things) == 1:
-        return things[0]
-    half = len(things) // 2
-    return ("and", wide_and(things[:half]), wide_and(things[half:]))
-
-
-def wide_choice(many):
-    if many == 1:
-        return P
-    return ("or", wide_choice(many // 2), wide_choice(many - many // 2))
-
-
-def eaches(many, inner):
-    for _ in range(many):
-        inner = ("each", 0, inner)
-    return inner
-
-
-def somes(many, inner):
-    for _ in range(many):
-        inner = ("some", 0, inner)
-    return inner
 
 
 if __name__ == "__main__":

@@ -27,7 +27,8 @@ def wrong_forms():
     """Values that are no forms, with the place."""
     found = [(value, ()) for value in no_tuples() if type(value) is not tuple or not value]
     found.extend([((EMPTY,) * 61, ()), ((EMPTY, 5), (1,)), (EMPTY, (0,)), ([EMPTY], ()), ((), ())])
-    found.extend([((EMPTY, (((1, 0),), (NO, NO))), (1, 0, 0)), ((((), (P,)),), (0, 1, 0)), ((((), (["no"],)),), (0, 1, 0))])
+    found.extend([((EMPTY, (((1, 0),), (NO, NO))), (1, 0, 0)), ((((), (P,)),), (0, 1, 0))])
+    found.append(((((), (["no"],)),), (0, 1, 0)))
     return found
 
 
@@ -74,13 +75,15 @@ class TestEither(Refusals, unittest.TestCase):
     def test_facts_at_the_first_world(self):
         for first, second, told in (
                 (NO, NO, NO), (YES, NO, YES), (NO, YES, YES), (YES, HERE, ("or", YES, HERE)),
-                (HERE, YES, ("or", HERE, YES)), (("or", NO, NO), NO, ("or", NO, NO)), (NO, ("and", NO, NO), ("and", NO, NO)),
+                (HERE, YES, ("or", HERE, YES)), (("or", NO, NO), NO, ("or", NO, NO)),
+                (NO, ("and", NO, NO), ("and", NO, NO)),
                 (("or", NO, NO), ("and", NO, NO), ("or", ("or", NO, NO), ("and", NO, NO)))):
             self.assertEqual(either_forms((((), (first,)),), (((), (second,)),)), (((), (told,)),))
 
     def test_worlds_of_the_other_form_are_numbered_behind(self):
         form = ((((0, 1), (0, 2)), (("here", 2), ("here", 0), ("some", 0, ("here", 1)))),)
-        other = ((((0, -1), (1, -2), (0, -3)), (("or", HERE, ("here", 3)), ("here", 1), ("each", 2, ("here", 0)), ("here", 2))),)
+        facts = (("or", HERE, ("here", 3)), ("here", 1), ("each", 2, ("here", 0)), ("here", 2))
+        other = ((((0, -1), (1, -2), (0, -3)), facts),)
         told = either_forms(form, other)
         self.assertEqual(told, ((
             ((0, 1), (0, 2), (0, -1), (3, -2), (0, -3)),
@@ -173,7 +176,8 @@ class TestEither(Refusals, unittest.TestCase):
 
     def test_which_is_told_first(self):
         deep, broad, long = ((), (tall_fact(100),)), ((), (wide_fact(1500),)), line_of(5)
-        self.refused(TooGreat, "most", 60, either_forms, (deep, broad, long) + (EMPTY,) * 5, (deep, long) + (EMPTY,) * 6)
+        many = (deep, broad, long) + (EMPTY,) * 5
+        self.refused(TooGreat, "most", 60, either_forms, many, (deep, long) + (EMPTY,) * 6)
         self.refused(TooGreat, "most", 8, either_forms, (deep, broad, long), (deep, long))
         self.refused(TooGreat, "most", 2000, either_forms, (deep, broad), (deep, EMPTY, EMPTY))
         self.refused(TooGreat, "most", 100, either_forms, (deep,), (deep, EMPTY, EMPTY))

@@ -7,7 +7,7 @@ from anymarks.errors import BadParameter, BadSaying, NoShape, TooGreat
 from anymarks.sayings import holding, letters_in, words_in
 from anymarks.shapes import count_rows, in_shape, need_shape, needing, needing_order, row_of
 from tests.helpers import (
-    NO, P, Q, R, YES, OddInteger, Refusals, Touchy, bush, chain, marking_by, no_numbers, no_tuples,
+    NO, P, Q, R, YES, OddInteger, Refusals, Touchy, bush, chain, halved, marking_by, no_numbers, no_tuples,
     plain_circles, plain_needs, plain_rows, plain_world_rows, saying_by, shaped_by, small_webs,
 )
 
@@ -49,14 +49,6 @@ def denied(met):
     return ("not", met)
 
 
-def halved(word, things):
-    """Things put together in their order, not deep."""
-    if len(things) == 1:
-        return things[0]
-    half = len(things) // 2
-    return (word, halved(word, things[:half]), halved(word, things[half:]))
-
-
 def chosen(factors):
     """What has, with factors (2, 3), 2 * 3 rows."""
     return halved("and", [
@@ -95,7 +87,8 @@ class TestRowOf(Refusals, unittest.TestCase):
                 ("each", 0, ("some", 1, ("or", P, NO)))):
             self.assertEqual(row_of(end, 0), ((), ((end,),), ()))
             self.assertEqual(count_rows(end), 1)
-            self.assertEqual(row_of(denied(both(Q, ("some", 2, denied(end)))), 0), ((), ((("each", 2, end),),), ((0, Q),)))
+            met = both(Q, ("some", 2, denied(end)))
+            self.assertEqual(row_of(denied(met), 0), ((), ((("each", 2, end),),), ((0, Q),)))
         met = ("each", 0, both(P, NOT_Q, ("or", Q, NOT_R), ("each", 1, ("some", 0, NOT_R))))
         ends = (("some", 0, Q), ("some", 0, ("some", 1, ("each", 0, R))))
         boxes = ((0, ("each", 0, P)), (0, ("each", 0, ("or", Q, NOT_R))))
@@ -306,7 +299,8 @@ class TestInShape(Refusals, unittest.TestCase):
 
     def test_sixty_rows_and_more(self):
         for factors, fits in (
-                ((60,), True), ((61,), False), ((2, 30), True), ((3, 4, 5), True), ((2, 31), False), ((2,) * 60, False)):
+                ((60,), True), ((61,), False), ((2, 30), True), ((3, 4, 5), True), ((2, 31), False),
+                ((2,) * 60, False)):
             saying = denied(chosen(factors))
             for function in (need_shape, in_shape):
                 if fits:

@@ -17,7 +17,7 @@ from anymarks.shapes import count_rows, in_shape, need_shape, needing, needing_o
 from anymarks.there import facts_of, form_of, kept_worlds, same_forms
 from anymarks.walks import head_of, is_box, needed_in, pieces_of
 from anymarks.webs import kinds_changed, led_to, need_web, web_turned
-from tests.helpers import GREAT_WEB, NO, P, Q, R, YES, bush, chain, tall_fact, wide_fact
+from tests.helpers import GREAT_WEB, NO, P, Q, R, YES, bush, chain, halved, tall_fact, wide_fact
 
 FULL_WEB = (200, tuple(sorted([
     (kind, start, (7 * start + step) % 200)
@@ -44,14 +44,6 @@ def tall():
     for height in range(1, 40):
         saying = ("gives", wide(min(height, 10 if height < 25 else 11)), saying)
     return saying
-
-
-def halved(word, things):
-    """Things put together in their order, not deep."""
-    if len(things) == 1:
-        return things[0]
-    half = len(things) // 2
-    return (word, halved(word, things[:half]), halved(word, things[half:]))
 
 
 def marked(letters):
@@ -138,7 +130,8 @@ class TestSpeed(unittest.TestCase):
 
     def test_rows_of_worlds(self):
         line = tuple((place, 0) for place in range(5))
-        ring = (200, tuple(sorted((0, world, (7 * world + 31 * step) % 200) for world in range(200) for step in range(5))))
+        ring = (200, tuple(sorted(
+            (0, world, (7 * world + 31 * step) % 200) for world in range(200) for step in range(5))))
         back = ("here", 0)
         for _ in range(4):
             back = ("some", -1, back)

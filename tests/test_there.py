@@ -10,11 +10,12 @@ from anymarks.sayings import deep_in, words_in
 from anymarks.shapes import in_shape
 from anymarks.there import facts_of, form_of, kept_worlds, same_forms
 from tests.helpers import (
-    GREAT_WEB, LINE, NO, P, Q, R, YES, OddInteger, Refusals, Touchy, bush, chain, no_numbers, no_tuples, plain_box,
-    plain_circles, plain_failing, plain_letters, plain_rows, plainly_negative, saying_by, shaped_by, small_webs,
+    GREAT_WEB, LINE, NO, P, Q, R, YES, OddInteger, Refusals, Touchy, bush, chain, eaches, halved, needs,
+    no_numbers, no_tuples, plain_box, plain_circles, plain_failing, plain_letters, plain_rows, plainly_negative,
+    saying_by, shaped_by, small_webs, somes,
 )
 
-NOT_P, NOT_Q, NOT_R = ("not", P), ("not", Q), ("not", R)
+NOT_P, NOT_Q = ("not", P), ("not", Q)
 LETTERS = [("letter", letter) for letter in range(8)]
 EXAMPLE = ("gives", ("and", ("each", 0, ("gives", P, Q)), ("or", P, ("some", 0, P))), ("some", 0, Q))
 LOOP = ("gives", ("each", 0, P), P)
@@ -22,31 +23,6 @@ MEET = ("gives", ("some", 0, ("each", 0, P)), ("each", 0, ("some", 0, P)))
 MCKINSEY = ("gives", ("each", 0, ("some", 0, P)), ("some", 0, ("each", 0, P)))
 OUT = ("gives", ("each", 0, ("gives", ("each", 0, P), P)), ("each", 0, P))
 HERE = ("here", 0)
-
-
-def halved(word, things):
-    """Things put together in their order, not deep."""
-    if len(things) == 1:
-        return things[0]
-    half = len(things) // 2
-    return (word, halved(word, things[:half]), halved(word, things[half:]))
-
-
-def eaches(many, inner):
-    for _ in range(many):
-        inner = ("each", 0, inner)
-    return inner
-
-
-def somes(many, inner, way=0):
-    for _ in range(many):
-        inner = ("some", way, inner)
-    return inner
-
-
-def needs(positive, head):
-    """A box of the head that needs the letters of a positive saying."""
-    return ("each", 0, ("gives", positive, head))
 
 
 def gives(boxes, end):
@@ -140,7 +116,8 @@ class TestFormOf(Refusals, unittest.TestCase):
     def test_ends(self):
         for ends, fact in (
                 ([P, Q], HERE), ([Q, P], HERE), ([Q], NO), ([NO], NO), ([NO, P, NO], HERE), ([Q, NO], NO),
-                ([P, ("some", 0, P)], ("or", HERE, ("some", 0, HERE))), ([("and", NO, NO), P], ("or", ("and", NO, NO), HERE)),
+                ([P, ("some", 0, P)], ("or", HERE, ("some", 0, HERE))),
+                ([("and", NO, NO), P], ("or", ("and", NO, NO), HERE)),
                 ([("some", 0, Q), P], ("or", ("some", 0, NO), HERE)), ([P, P], ("or", HERE, HERE)),
                 ([P, ("each", 0, P), YES], ("or", HERE, ("or", ("each", 0, HERE), YES)))):
             # Each of them by itself is met as an end: "and" with the box ahead of the last one.
@@ -250,7 +227,8 @@ class TestSameForms(Refusals, unittest.TestCase):
         for first, second, told in (
                 (LOOP, ("gives", ("each", 0, Q), Q), True), (LOOP, ("or", ("some", 0, NOT_P), P), True),
                 (LOOP, ("gives", NOT_P, ("some", 0, NOT_P)), True), (LOOP, ("gives", ("each", 1, P), P), False),
-                (P, Q, True), (P, NO, True), (("or", P, ("not", P)), YES, False), (MEET, MEET, True), (LOOP, MEET, False),
+                (P, Q, True), (P, NO, True), (("or", P, ("not", P)), YES, False), (MEET, MEET, True),
+                (LOOP, MEET, False),
                 (("and", P, P), P, False)):
             self.assertIs(same_forms(first, second), told, (first, second))
             self.assertIs(same_forms(other=second, saying=first), told)
