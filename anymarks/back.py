@@ -2,8 +2,9 @@
 
 from anymarks.errors import TooGreat
 from anymarks.forms import NOWHERE, need_form
-from anymarks.sayings import LETTERS, MOST_DEEP, MOST_WORDS, deep_with, joined, replaced, words_of
+from anymarks.sayings import MOST_DEEP, MOST_WORDS
 from anymarks.there import form_of
+from anymarks.words import LETTERS, deep_of, joined, replaced, words_of
 
 
 def saying_of(form):
@@ -25,7 +26,7 @@ def asking_saying(clauses):
     """
     sizes = []
     for tree, asked in clauses:
-        own = [[(len(words_of(part)), deep_with(part, [1] * LETTERS)) for part in parts] for parts in asked]
+        own = [[(len(words_of(part)), deep_of(part)) for part in parts] for parts in asked]
         sizes.append(_one_more(_size_at(tree, own, 0)))
     words, deep = _joined_size(sizes)
     if words > MOST_WORDS:

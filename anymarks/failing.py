@@ -3,10 +3,11 @@
 from anymarks.errors import BadMarking
 from anymarks.forms import breaks
 from anymarks.sayings import (
-    LETTERS, Cases, holds, letters_in, marked_where, need_marking, need_saying, worlds_where,
+    Cases, holds, letters_in, marked_where, need_marking, need_saying, worlds_where,
 )
 from anymarks.there import readings_of
 from anymarks.webs import leads_of, need_web, need_world
+from anymarks.words import LETTERS
 
 
 def failing(web, saying, world):

@@ -2,8 +2,8 @@
 
 from anymarks.errors import BadWay, TooGreat
 from anymarks.forms import MOST_CLAUSES, MOST_FACT_DEEP, MOST_FACT_WORDS, MOST_PLACES, NOWHERE, need_form
-from anymarks.sayings import deep_with, replaced, words_of
 from anymarks.webs import is_way
+from anymarks.words import deep_of, replaced, words_of
 
 
 def both_forms(form, other):
@@ -37,7 +37,7 @@ def either_forms(form, other):
     _need_few_words(sum([_words_of_either(first, second) for first, second in pairs]))
     for first, second in pairs:
         # The facts of all other worlds are as deep as they were.
-        if deep_with(_either_fact(first[1][0], second[1][0]), ()) > MOST_FACT_DEEP:
+        if deep_of(_either_fact(first[1][0], second[1][0])) > MOST_FACT_DEEP:
             raise TooGreat(MOST_FACT_DEEP)
     return tuple([_either(first, second) for first, second in pairs])
 

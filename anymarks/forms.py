@@ -2,8 +2,9 @@
 
 from anymarks.basics import is_number, is_tuple
 from anymarks.errors import BadFact, BadForm, BadParameter, NoRow, TooGreat
-from anymarks.sayings import Cases, Walk, marked_where, words_of, worlds_where
+from anymarks.sayings import Cases, marked_where, worlds_where
 from anymarks.webs import is_way, leads_of, need_web, need_world
+from anymarks.words import Walk, words_of
 
 MOST_CLAUSES = 60
 MOST_PLACES = 8
@@ -11,7 +12,6 @@ MOST_FACT_WORDS = 2000
 MOST_FACT_DEEP = 100
 MOST_ROWS = 5000
 MOST_ROWS_AT_ONCE = 20000
-FACT_WORDS = ("yes", "no", "here", "and", "or", "each", "some")
 NOWHERE = ("no",)
 
 
@@ -26,7 +26,7 @@ def need_fact(fact, many):
 
 
 def _fact_walk():
-    return Walk(FACT_WORDS, MOST_FACT_DEEP, MOST_FACT_WORDS)
+    return Walk(0, False, MOST_FACT_DEEP, MOST_FACT_WORDS)
 
 
 def need_form(form):

@@ -1,6 +1,7 @@
 """Sayings turned inward: "not" at letters alone, and no "gives"."""
 
-from anymarks.sayings import need_saying, parts_of, words_of
+from anymarks.sayings import need_saying
+from anymarks.words import words_of
 
 # What each word becomes beneath a not.
 TURNED = {"yes": "no", "no": "yes", "and": "or", "or": "and", "each": "some", "some": "each"}
@@ -19,17 +20,19 @@ def turned_about(saying):
 def turned(saying, beneath):
     """Return a saying turned inward, or, if it stands beneath a not, not of it so."""
     word = saying[0]
-    if word == "letter":
+    if word == "letter" or word == "here":
         return ("not", saying) if beneath else saying
     if word == "not":
         return turned(saying[1], not beneath)
     if word == "gives":
         joint = "and" if beneath else "or"
         return (joint, turned(saying[1], not beneath), turned(saying[2], beneath))
-    parts = parts_of(saying)
-    between = saying[1:len(saying) - len(parts)]
     outer = TURNED[word] if beneath else word
-    return (outer,) + between + tuple([turned(part, beneath) for part in parts])
+    if len(saying) == 1:
+        return (outer,)
+    if word == "each" or word == "some":
+        return (outer, saying[1], turned(saying[2], beneath))
+    return (outer, turned(saying[1], beneath), turned(saying[2], beneath))
 
 
 def is_positive(saying):

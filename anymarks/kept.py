@@ -1,8 +1,9 @@
 """What is kept, by trying: all markings of the letters in a saying are gone through."""
 
 from anymarks.errors import NoRow, TooGreat
-from anymarks.sayings import LETTERS, Cases, letters_in, need_saying
+from anymarks.sayings import Cases, letters_in, need_saying
 from anymarks.webs import leads_of, need_web, need_world
+from anymarks.words import LETTERS
 
 MOST_MARKS = 12
 

@@ -3,10 +3,11 @@
 from anymarks.errors import TooGreat
 from anymarks.forms import MOST_FACT_DEEP, MOST_FACT_WORDS, NOWHERE, form_worlds
 from anymarks.inward import turned
-from anymarks.sayings import LETTERS, deep_with, joined, need_saying, replaced, words_with
+from anymarks.sayings import need_saying
 from anymarks.shapes import numbered_row, rows_in_shape
 from anymarks.walks import opened
 from anymarks.webs import need_web, turned_way
+from anymarks.words import LETTERS, deep_with, joined, replaced, words_with
 
 
 class Reading:

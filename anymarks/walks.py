@@ -2,7 +2,7 @@
 
 from anymarks.errors import NoRow
 from anymarks.inward import all_denied, inward
-from anymarks.sayings import letters_of
+from anymarks.words import letters_of
 
 
 def pieces_of(saying):

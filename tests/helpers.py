@@ -542,3 +542,79 @@ def positive_by(chance, deep, letters):
     if word in ("each", "some"):
         return (word, chance.choice(WAYS), positive_by(chance, deep - 1, letters))
     return (word, positive_by(chance, deep - 1, letters), positive_by(chance, deep - 1, letters))
+
+
+def plainly_term_holds(web, marking, worlds, term, world):
+    """Whether a term holds at a world, as points 3 and 28 of the document tell it."""
+    word = term[0]
+    if word == "letter":
+        return term[1] < len(marking) and world in marking[term[1]]
+    if word == "here":
+        return worlds[term[1]] == world
+    if word in ("yes", "no"):
+        return word == "yes"
+    if word in ("each", "some"):
+        led = plainly_led(web, term[1], world)
+        found = [plainly_term_holds(web, marking, worlds, term[2], there) for there in led]
+        return all(found) if word == "each" else any(found)
+    first, *rest = [plainly_term_holds(web, marking, worlds, part, world) for part in term[1:]]
+    if word == "not":
+        return not first
+    return {"and": first and rest[0], "or": first or rest[0], "gives": not first or rest[0]}[word]
+
+
+def plainly_kept_lot(web, lot, marking, worlds):
+    """Whether a lot is kept: in each line the second term holds wherever the first one does."""
+    return all(
+        not plainly_term_holds(web, marking, worlds, first, world)
+        or plainly_term_holds(web, marking, worlds, second, world)
+        for first, second in lot for world in range(web[0])
+    )
+
+
+def plain_term_letters(lot):
+    """The ascending tuple of the letters in a lot."""
+    return tuple(sorted(set().union(*[plain_letters(term) for line in lot for term in line])))
+
+
+def some_marking_keeps(web, lot, worlds, letters=None):
+    """Whether some marking, of all of the letters in the lot, keeps it."""
+    letters = plain_term_letters(lot) if letters is None else letters
+    for items in all_markings(web[0], len(letters)):
+        marking = [()] * 8
+        for letter, item in zip(letters, items):
+            marking[letter] = item
+        if plainly_kept_lot(web, lot, marking, worlds):
+            return True
+    return False
+
+
+def term_by(chance, deep, letters=2, places=2):
+    """A term at most so deep."""
+    if deep == 1 or chance.random() < 0.15:
+        letter, here = ("letter", chance.randrange(letters)), ("here", chance.randrange(places))
+        return chance.choice([letter, letter, letter, here, here, YES, NO])
+    word = chance.choice(("not", "and", "or", "gives", "each", "some", "each", "some"))
+    if word == "not":
+        return (word, term_by(chance, deep - 1, letters, places))
+    if word in ("each", "some"):
+        return (word, chance.choice(WAYS), term_by(chance, deep - 1, letters, places))
+    return (word, term_by(chance, deep - 1, letters, places), term_by(chance, deep - 1, letters, places))
+
+
+def lot_by(chance, lines=3, deep=3, letters=2, places=2):
+    """A lot of at most so many lines."""
+    return tuple([
+        (term_by(chance, chance.randint(1, deep), letters, places), term_by(chance, deep, letters, places))
+        for _ in range(chance.randint(0, lines))
+    ])
+
+
+def plain_words(value):
+    """How many words there are in a saying, a fact or a term."""
+    return 1 + sum(plain_words(part) for part in value if isinstance(part, tuple))
+
+
+def plain_deep(value):
+    """How deep a saying, a fact or a term is."""
+    return 1 + max([plain_deep(part) for part in value if isinstance(part, tuple)], default=0)

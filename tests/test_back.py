@@ -11,8 +11,8 @@ from anymarks.sayings import deep_in, need_saying, words_in
 from anymarks.shapes import in_shape, need_shape
 from anymarks.there import form_of, kept_worlds, same_forms
 from tests.helpers import (
-    NO, P, Q, R, YES, Refusals, Touchy, bush, chain, form_by, halved, no_tuples, plain_failing, plain_letters,
-    shaped_by, small_webs, tall_fact, tree_by, wide_fact,
+    NO, P, Q, R, YES, Refusals, Touchy, bush, chain, form_by, halved, no_tuples, plain_deep, plain_failing,
+    plain_letters, plain_words, shaped_by, small_webs, tall_fact, tree_by, wide_fact,
 )
 
 LETTERS = [("letter", letter) for letter in range(8)]
@@ -54,14 +54,6 @@ def to_the_right(things):
     for thing in things[-2::-1]:
         told = ("and", thing, told)
     return told
-
-
-def plain_deep(saying):
-    return 1 + max([plain_deep(part) for part in saying if isinstance(part, tuple)], default=0)
-
-
-def plain_words(saying):
-    return 1 + sum(plain_words(part) for part in saying if isinstance(part, tuple))
 
 
 class TestSayingOf(Refusals, unittest.TestCase):

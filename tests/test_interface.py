@@ -46,6 +46,18 @@ FUNCTIONS = {
         "failing": ["web", "saying", "world"], "is_failing": ["web", "saying", "world", "value"],
     },
     "back": {"saying_of": ["form"], "bared": ["saying"]},
+    "forward": {"is_forward": ["form"], "forward_saying": ["form"]},
+    "lots": {
+        "need_term": ["value"], "need_lot": ["value"], "lot_keeps": ["web", "lot", "marking", "worlds"],
+        "lot_of": ["saying", "number"], "moves_at": ["lot", "place"], "moved": ["lot", "place", "word"],
+    },
+    "away": {
+        "put_away": ["lot", "letter", "side"], "led_away": ["lot", "paper"],
+        "is_away_paper": ["lot", "goal", "value"], "away": ["saying", "number", "letters"],
+    },
+    "parts": {
+        "closed_from": ["web", "worlds", "both"], "part_of": ["web", "worlds"], "beside": ["webs"],
+    },
 }
 
 

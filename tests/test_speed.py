@@ -3,13 +3,17 @@
 import time
 import unittest
 
+from anymarks.away import away, is_away_paper, led_away, put_away
 from anymarks.back import bared, saying_of
 from anymarks.errors import NoShape, TooGreat
 from anymarks.failing import failing, is_failing
 from anymarks.formdeeds import both_forms, either_forms, under_way
 from anymarks.forms import breaks, fact_worlds, form_holds, form_worlds, need_form, rows_at
+from anymarks.forward import forward_saying, is_forward
 from anymarks.inward import inward, is_negative, is_positive, turned_about
 from anymarks.kept import fails_by, is_kept, tried
+from anymarks.lots import lot_keeps, lot_of, moved, moves_at, need_lot
+from anymarks.parts import beside, closed_from, part_of
 from anymarks.sayings import (
     deep_in, holding, holds, letters_in, need_marking, need_saying, put_in, renamed, words_in,
 )
@@ -17,7 +21,7 @@ from anymarks.shapes import count_rows, in_shape, need_shape, needing, needing_o
 from anymarks.there import facts_of, form_of, kept_worlds, same_forms
 from anymarks.walks import head_of, is_box, needed_in, pieces_of
 from anymarks.webs import kinds_changed, led_to, need_web, web_turned
-from tests.helpers import GREAT_WEB, NO, P, Q, R, YES, bush, chain, halved, tall_fact, wide_fact
+from tests.helpers import GREAT_WEB, NO, P, Q, R, YES, bush, chain, eaches, halved, tall_fact, wide_fact
 
 FULL_WEB = (200, tuple(sorted([
     (kind, start, (7 * start + step) % 200)
@@ -44,6 +48,14 @@ def tall():
     for height in range(1, 40):
         saying = ("gives", wide(min(height, 10 if height < 25 else 11)), saying)
     return saying
+
+
+def wide_term(words):
+    """A term of so many words, without the letter 0 if there is just one."""
+    if words <= 2:
+        return ("here", 7) if words == 1 else ("not", ("letter", 1))
+    first = (words - 1) // 2
+    return ("and", ("some", 0, wide_term(first - 1)) if first > 1 else Q, wide_term(words - 1 - first))
 
 
 def marked(letters):
@@ -217,6 +229,69 @@ class TestSpeed(unittest.TestCase):
         with self.assertRaises(TooGreat):
             either_forms(((line, (tall_fact(100),) * 6),) * 3, ((line[:2], (tall_fact(100),) * 3),) * 20)
         saying_of(((line, (NO,) * 6),) * 10)
+
+    def test_lots(self):
+        lot = tuple((wide_term(33), wide_term(33)) for _ in range(30))
+        self.assertIs(need_lot(lot), lot)
+        for web in (GREAT_WEB, FULL_WEB):
+            lot_keeps(web, lot, MARKING, tuple(range(192, 200)))
+        for place in range(30):
+            for word in moves_at(lot, place):
+                try:
+                    moved(lot, place, word)
+                except TooGreat:
+                    pass
+        great = ((wide_term(900), wide_term(900)),)
+        for word in ("turn", "lift", "carry", "inward"):
+            moved(great, 0, word)
+
+    def test_papers_of_steps(self):
+        for lines, words in ((30, 30), (1, 990)):
+            line = (wide_term(words), ("each", 0, wide_term(words)))
+            paper = (("under", 0), ("over", 0), ("inward", 0), ("least", 7)) * 100
+            told = led_away((line,) * lines, paper)
+            self.assertEqual(len(told), lines)
+            self.assertIs(is_away_paper((line,) * lines, told, paper), True)
+        ends = [("letter", letter) for letter in range(8)] * 4
+        boxes = [("each", 0, ("gives", ("letter", letter), ("letter", letter + 1))) for letter in range(7)] * 2
+        saying = ("gives", halved("and", [P, *boxes]), halved("or", ends))
+        for letters in ((0, 1, 2, 3, 4, 5, 6, 7), (7, 6, 5, 4, 3, 2, 1, 0), (3, 6, 0, 7, 1, 5, 2, 4)):
+            try:
+                goal, paper = away(saying, 0, letters)
+            except TooGreat:
+                continue
+            self.assertIs(is_away_paper(lot_of(saying, 0), goal, paper), True)
+        held = ("not", ("and", eaches(28, halved("and", [P] * 13)), eaches(35, P)))
+        goal, paper = away(held, 0, (0,))
+        self.assertEqual((goal, len(paper)), ((), 400))
+
+    def test_putting_away(self):
+        lot = tuple((wide_term(30), P) for _ in range(29)) + ((P, YES),)
+        self.assertEqual(len(put_away(lot, 0, "least")), 1)
+        with self.assertRaises(TooGreat):
+            put_away(lot[:29] + ((halved("and", [P] * 500), YES),), 0, "least")
+        turned = tuple((second, first) for first, second in lot)
+        self.assertEqual(len(put_away(turned, 0, "greatest")), 1)
+
+    def test_forward_forms(self):
+        ends = [("some", -1 - step % 3, ("here", step % 2)) for step in range(6)]
+        form = ((((0, 0),), (halved("or", ends * 110), NO)),)
+        self.assertIs(is_forward(form), True)
+        with self.assertRaises(TooGreat):
+            forward_saying(form)
+        sixty = ((((0, 0),), (halved("or", ends), NO)),) * 60
+        self.assertIs(is_forward(sixty), True)
+        with self.assertRaises(TooGreat):
+            forward_saying(sixty)
+        forward_saying(((((0, 0),), (halved("or", ends * 15), NO)),))
+
+    def test_parts(self):
+        for web in (GREAT_WEB, FULL_WEB):
+            for both in (True, False):
+                worlds = closed_from(web, (199,) * 200, both)
+                self.assertEqual(part_of(web, worlds)[0], len(worlds))
+        small = (20, tuple((0, start, end) for start in range(10) for end in range(10)))
+        self.assertEqual(beside((small,) * 10)[0], 200)
 
     def test_they_are_the_greatest(self):
         self.assertEqual((words_in(tall()), deep_in(tall())), (400, 40))
