@@ -43,7 +43,7 @@ def part_of(web, worlds):
     need_web(web)
     if not are_worlds(web, worlds) or not worlds or not _are_closed(web, worlds):
         raise BadParameter(worlds)
-    return closed_part(web, worlds)
+    return closed_part(leads_of(web), worlds)
 
 
 def _are_closed(web, worlds):
@@ -51,10 +51,13 @@ def _are_closed(web, worlds):
     return all([end in inside for _, start, end in web[1] if start in inside])
 
 
-def closed_part(web, worlds):
-    """Return the web of some closed worlds, its world I being worlds[I]."""
+def closed_part(leads, worlds):
+    """Return the web of some closed worlds, its world I being worlds[I], by where all worlds lead."""
     numbers = {world: number for number, world in enumerate(worlds)}
-    arrows = [(kind, numbers[start], numbers[end]) for kind, start, end in web[1] if start in numbers]
+    arrows = [
+        (kind, numbers[start], numbers[end])
+        for kind in range(LAST_KIND + 1) for start in worlds for end in leads[kind][start]
+    ]
     return (len(worlds), tuple(sorted(arrows)))
 
 
@@ -68,6 +71,11 @@ def beside(webs):
         raise TooGreat(MOST_WORLDS)
     if sum([len(arrows) for _, arrows in webs]) > MOST_ARROWS:
         raise TooGreat(MOST_ARROWS)
+    return put_beside(webs)
+
+
+def put_beside(webs):
+    """Return one web of several, however great."""
     ahead = 0
     found = []
     for size, arrows in webs:

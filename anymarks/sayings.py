@@ -73,7 +73,7 @@ class Cases:
         if word == "each":
             return _everywhere(self.full, self.leads[saying[1]], self.answers(saying[2]))
         if word == "some":
-            return _somewhere(self.leads[saying[1]], self.answers(saying[2]))
+            return somewhere(self.leads[saying[1]], self.answers(saying[2]))
         first = self.answers(saying[1])
         if word == "not":
             return [self.full ^ here for here in first]
@@ -95,7 +95,8 @@ def _everywhere(full, rows, inner):
     return told
 
 
-def _somewhere(rows, inner):
+def somewhere(rows, inner):
+    """Return for each world the answers that are found at one of the worlds it leads to at least."""
     told = []
     for row in rows:
         found = 0

@@ -58,6 +58,19 @@ FUNCTIONS = {
     "parts": {
         "closed_from": ["web", "worlds", "both"], "part_of": ["web", "worlds"], "beside": ["webs"],
     },
+    "folds": {
+        "is_fold": ["web", "image", "both", "value"], "all_folds": ["web", "image", "both"],
+        "least_image": ["web", "both"],
+    },
+    "pictures": {
+        "goes_through": ["web"], "root_of": ["web"], "part_from": ["web", "world"], "picture": ["web"],
+        "is_pictured": ["web", "world", "image"],
+    },
+    "closures": {"in_closure": ["webs", "web"], "telling": ["webs", "web"]},
+    "closings": {
+        "is_closing": ["form"], "added": ["web", "form"], "is_closed": ["web", "form"], "closed_web": ["web", "form"],
+        "closing_paper": ["web", "form"], "is_closing_paper": ["web", "form", "goal", "value"],
+    },
 }
 
 

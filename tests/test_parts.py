@@ -69,7 +69,8 @@ class TestClosedFrom(Refusals, unittest.TestCase):
     def test_many_worlds(self):
         self.assertEqual(closed_from(LINE, (2, 1) * 100, False), (1, 2))
         self.assertEqual(closed_from(GREAT_WEB, tuple(range(199, -1, -1)), False), tuple(range(200)))
-        self.refused(BadParameter, "value", worlds := (1,) * 201, closed_from, LINE, worlds, False)
+        worlds = (1,) * 201
+        self.refused(BadParameter, "value", worlds, closed_from, LINE, worlds, False)
 
     def test_refusals(self):
         for value in web_wrong():
@@ -145,7 +146,8 @@ class TestBeside(Refusals, unittest.TestCase):
     def test_bounds(self):
         one = (1, ())
         self.assertEqual(beside((one,) * 60), (60, ()))
-        self.refused(BadParameter, "value", webs := (one,) * 61, beside, webs)
+        webs = (one,) * 61
+        self.refused(BadParameter, "value", webs, beside, webs)
         for first, second, fits in ((199, 1, True), (100, 100, True), (200, 1, False), (101, 100, False)):
             if fits:
                 self.assertEqual(beside(((first, ()), (second, ()))), (200, ()))

@@ -5,8 +5,11 @@ import unittest
 
 from anymarks.away import away, is_away_paper, led_away, put_away
 from anymarks.back import bared, saying_of
+from anymarks.closings import added, closed_web, closing_paper, is_closed, is_closing_paper
+from anymarks.closures import in_closure, telling
 from anymarks.errors import NoShape, TooGreat
 from anymarks.failing import failing, is_failing
+from anymarks.folds import all_folds, is_fold, least_image
 from anymarks.formdeeds import both_forms, either_forms, under_way
 from anymarks.forms import breaks, fact_worlds, form_holds, form_worlds, need_form, rows_at
 from anymarks.forward import forward_saying, is_forward
@@ -14,6 +17,7 @@ from anymarks.inward import inward, is_negative, is_positive, turned_about
 from anymarks.kept import fails_by, is_kept, tried
 from anymarks.lots import lot_keeps, lot_of, moved, moves_at, need_lot
 from anymarks.parts import beside, closed_from, part_of
+from anymarks.pictures import goes_through, is_pictured, part_from, root_of
 from anymarks.sayings import (
     deep_in, holding, holds, letters_in, need_marking, need_saying, put_in, renamed, words_in,
 )
@@ -48,6 +52,11 @@ def tall():
     for height in range(1, 40):
         saying = ("gives", wide(min(height, 10 if height < 25 else 11)), saying)
     return saying
+
+
+def all_to_all(size):
+    """The arrows of a web in which all lead to all."""
+    return tuple((0, start, end) for start in range(size) for end in range(size))
 
 
 def wide_term(words):
@@ -292,6 +301,59 @@ class TestSpeed(unittest.TestCase):
                 self.assertEqual(part_of(web, worlds)[0], len(worlds))
         small = (20, tuple((0, start, end) for start in range(10) for end in range(10)))
         self.assertEqual(beside((small,) * 10)[0], 200)
+
+    def test_folds(self):
+        line = (200, tuple((0, world, world + 1) for world in range(199)))
+        ring = (200, tuple(sorted((0, world, (world + 1) % 200) for world in range(200))))
+        wide_ring = (200, tuple(sorted((0, world, (world + step) % 200) for world in range(200) for step in range(5))))
+        fan = (200, tuple((0, 0, world) for world in range(1, 200)))
+        for web, worlds in ((line, 200), (ring, 1), (wide_ring, 1), (fan, 2), (FULL_WEB, 1)):
+            for both in (True, False):
+                image, fold = least_image(web, both)
+                self.assertEqual(image[0], worlds)
+                self.assertIs(is_fold(web, image, both, fold), True)
+                if worlds == 1:
+                    self.assertEqual(all_folds(web, image, both), (fold,))
+        least_image(GREAT_WEB, True)
+        everything = [(size, all_to_all(size)) for size in range(13)]
+        for size, image, many in ((12, 2, 4094), (7, 3, 1806), (6, 4, 1560), (5, 5, 120)):
+            self.assertEqual(len(all_folds(everything[size], everything[image], True)), many)
+
+    def test_pictures_and_closures(self):
+        order = (45, tuple((0, start, end) for start in range(45) for end in range(start + 1, 45)))
+        loops = (200, tuple((0, world, world) for world in range(200)))
+        wide = (31, all_to_all(31))
+        self.assertIs(goes_through(order), True)
+        self.assertEqual((root_of(order), part_from(order, 40)[0]), (0, 5))
+        self.assertIs(in_closure((order, wide) * 6, (200, ())), True)
+        self.assertIs(in_closure((wide,) * 12, loops), True)
+        self.assertIs(in_closure((loops,) * 12, order), False)
+        with self.assertRaises(TooGreat):
+            telling((loops,) * 12, wide)
+        self.assertIs(is_pictured((12, all_to_all(12)), 11, (2, all_to_all(2))), True)
+        fives = beside(tuple((5, tuple((0, 0, world) for world in range(1 + step % 5, 5))) for step in range(40)))
+        self.assertIs(in_closure((fives,) * 12, fives), True)
+
+    def test_closings(self):
+        line = (200, tuple((0, world, world + 1) for world in range(199)) + ((1, 0, 0),))
+        wide = (31, all_to_all(31))
+        # A loop goes along the line, a world in each round.
+        spread = ((((0, 0), *[(0, 1)] * 6), (NO, ("some", 1, ("here", 1)), *[NO] * 6)),) * 60
+        closed = closed_web(line, spread)
+        self.assertEqual(len(closed[1]), 399)
+        paper = closing_paper(line, spread)
+        self.assertEqual(len(paper), 199)
+        self.assertIs(is_closing_paper(line, spread, closed, paper), True)
+        far = tuple((place, 0) for place in range(7))
+        clauses = tuple((far, (("some", way, ("here", 7)), *[NO] * 7)) for way in range(-3, 3)) * 10
+        self.assertEqual(len(added(wide, clauses)), 2 * 961)
+        self.assertIs(is_closed(wide, clauses[2::6] + clauses[3::6]), True)
+        self.assertEqual(closed_web(wide, clauses[2::6]), wide)
+        with self.assertRaises(TooGreat):
+            closed_web(wide, clauses)
+        for web in (GREAT_WEB, FULL_WEB):
+            added(web, clauses)
+            is_closed(web, clauses)
 
     def test_they_are_the_greatest(self):
         self.assertEqual((words_in(tall()), deep_in(tall())), (400, 40))
