@@ -5,7 +5,7 @@ from anymarks.errors import BadLetter, BadPaper, BadParameter, MarkError, Stuck,
 from anymarks.lots import is_move, lot_of_row, need_lot, read_lot, words_in_line
 from anymarks.sayings import is_letter
 from anymarks.shapes import numbered_row
-from anymarks.words import LETTERS, deep_of, deep_with, joined, letters_of, replaced, words_of
+from anymarks.words import LETTERS, joined, letters_of, replaced, size_of, size_with, words_of
 
 MOST_STEPS = 400
 
@@ -40,12 +40,11 @@ def put_away_from(held, letter, side):
     marked = [line for line in staying if alone in words_of(line[0]) or alone in words_of(line[1])]
     if alone in words_of(told) or any([_is_against(line, own, alone) for line in marked]):
         raise Stuck(letter)
-    terms = [term for line in marked for term in line]
-    deeps = [1] * LETTERS
-    deeps[letter] = deep_of(told)
-    more = sum([words_of(term).count(alone) for term in terms]) * (len(words_of(told)) - 1)
-    words = held.words - sum([words_in_line(line) for line in going]) + more
-    held.need_room(len(staying), words, max([deep_with(term, deeps) for term in terms], default=0))
+    sizes = [(1, 1)] * LETTERS
+    sizes[letter] = size_of(told)
+    found = [size_with(term, sizes) for line in marked for term in line]
+    words = held.words + sum([more for more, _ in found]) - sum([words_in_line(line) for line in going + marked])
+    held.need_room(len(staying), words, max([deep for _, deep in found], default=0))
     table = [("letter", other) for other in range(LETTERS)]
     table[letter] = told
     held.take([tuple([replaced(term, "letter", table) for term in line]) for line in staying], words)

@@ -4,7 +4,7 @@ from anymarks.errors import TooGreat
 from anymarks.forms import NOWHERE, need_form
 from anymarks.sayings import MOST_DEEP, MOST_WORDS
 from anymarks.there import form_of
-from anymarks.words import LETTERS, deep_of, joined, replaced, words_of
+from anymarks.words import LETTERS, joined, joined_size, replaced, size_of
 
 
 def saying_of(form):
@@ -26,9 +26,9 @@ def asking_saying(clauses):
     """
     sizes = []
     for tree, asked in clauses:
-        own = [[(len(words_of(part)), deep_of(part)) for part in parts] for parts in asked]
+        own = [[size_of(part) for part in parts] for parts in asked]
         sizes.append(_one_more(_size_at(tree, own, 0)))
-    words, deep = _joined_size(sizes)
+    words, deep = joined_size(sizes)
     if words > MOST_WORDS:
         raise TooGreat(MOST_WORDS)
     if deep > MOST_DEEP:
@@ -50,22 +50,13 @@ def _asked_at(tree, asked, place):
 def _size_at(tree, sizes, place):
     """Return (WORDS, DEEP) of what is asked at a world, of those of what is asked there itself."""
     further = [_one_more(_size_at(tree, sizes, child)) for child, _ in _children(tree, place)]
-    return _joined_size(sizes[place] + further)
+    return joined_size(sizes[place] + further)
 
 
 def _one_more(size):
     """Return the size with a word put ahead."""
     words, deep = size
     return (words + 1, deep + 1)
-
-
-def _joined_size(sizes):
-    """Return the size of what has these sizes, put together to the right."""
-    words, deep = sizes[-1]
-    for first_words, first_deep in sizes[:-1][::-1]:
-        words = first_words + 1 + words
-        deep = 1 + max(first_deep, deep)
-    return (words, deep)
 
 
 def bared(saying):

@@ -188,12 +188,14 @@ def _telling_places(clause):
     facts, and the parents of worlds still to come.
     """
     tree, facts = clause
+    if not tree:
+        return ((0,),)
     asked = [place for place, fact in enumerate(facts) if fact != NOWHERE]
     words = [word for fact in facts for word in words_of(fact)]
-    asked.extend([word[1] for word in words if word[0] == "here"])
+    named = sorted({word[1] for word in words if word[0] == "here"})
     told = []
     for place in range(len(facts)):
-        matter = [0] + asked + [parent for parent, _ in tree[place:]]
+        matter = [0] + asked + named + [parent for parent, _ in tree[place:]]
         told.append(tuple(sorted({other for other in matter if other <= place})))
     return tuple(told)
 

@@ -18,21 +18,34 @@ def turned_about(saying):
 
 
 def turned(saying, beneath):
-    """Return a saying turned inward, or, if it stands beneath a not, not of it so."""
+    """Return a saying or term turned inward, or, if it stands beneath a not, not of it so."""
+    return judged(saying, beneath)[1]
+
+
+def judged(saying, beneath):
+    """Return (DENIED, TURNED, PARTS) of a saying turned inward, or, beneath a not, of not of it.
+
+    DENIED tells whether it is negative, PARTS has the same of each of its parts: so what
+    is asked of the parts again and again is found out once. A "here" stays as letters do.
+    """
     word = saying[0]
     if word == "letter" or word == "here":
-        return ("not", saying) if beneath else saying
+        return (beneath, ("not", saying) if beneath else saying, ())
     if word == "not":
-        return turned(saying[1], not beneath)
-    if word == "gives":
-        joint = "and" if beneath else "or"
-        return (joint, turned(saying[1], not beneath), turned(saying[2], beneath))
-    outer = TURNED[word] if beneath else word
+        return judged(saying[1], not beneath)
     if len(saying) == 1:
-        return (outer,)
-    if word == "each" or word == "some":
-        return (outer, saying[1], turned(saying[2], beneath))
-    return (outer, turned(saying[1], beneath), turned(saying[2], beneath))
+        return (True, (TURNED[word],) if beneath else saying, ())
+    if word == "gives":
+        first = judged(saying[1], not beneath)
+        outer = "and" if beneath else "or"
+    elif word == "each" or word == "some":
+        inner = judged(saying[2], beneath)
+        return (inner[0], (TURNED[word] if beneath else word, saying[1], inner[1]), (inner,))
+    else:
+        first = judged(saying[1], beneath)
+        outer = TURNED[word] if beneath else word
+    second = judged(saying[2], beneath)
+    return (first[0] and second[0], (outer, first[1], second[1]), (first, second))
 
 
 def is_positive(saying):
@@ -42,11 +55,4 @@ def is_positive(saying):
 
 def is_negative(saying):
     """Return whether in the saying, turned inward, each letter stands beneath a not."""
-    return all_denied(inward(saying))
-
-
-def all_denied(saying):
-    """Tell whether an inward saying is negative."""
-    found = [word[0] for word in words_of(saying)]
-    # Turned inward each not stands at just one letter: so counting them is enough.
-    return found.count("not") == found.count("letter")
+    return judged(need_saying(saying), False)[0]

@@ -171,7 +171,7 @@ def lot_of(saying, number):
 
 def lot_of_row(row):
     """Return the Lot of a Row; TooGreat if it is none."""
-    lines = [(("here", place), box) for place, box in row.boxes]
+    lines = [(("here", place), box) for place, box in row.met_boxes()]
     for place, ends in enumerate(row.ends):
         lines.extend([(("here", place), turned(end, True)) for end in ends])
     held = Lot((), 0)

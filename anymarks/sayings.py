@@ -3,7 +3,7 @@
 from anymarks.basics import are_numbers, is_number, is_tuple
 from anymarks.errors import BadLetter, BadMarking, BadParameter, BadSaying, TooGreat
 from anymarks.webs import are_worlds, leads_of, need_web, need_world
-from anymarks.words import LETTERS, Walk, deep_of, deep_with, letters_of, replaced, words_of, words_with
+from anymarks.words import LETTERS, Walk, deep_of, letters_of, replaced, size_of, size_with, words_of
 
 MOST_WORDS = 400
 MOST_DEEP = 40
@@ -149,13 +149,12 @@ def put_in(saying, letter, other):
     need_saying(saying)
     if not is_letter(letter):
         raise BadLetter(letter)
-    words = [1] * LETTERS
-    words[letter] = words_in(other)
-    if words_with(saying, words) > MOST_WORDS:
+    sizes = [(1, 1)] * LETTERS
+    sizes[letter] = size_of(need_saying(other))
+    words, deep = size_with(saying, sizes)
+    if words > MOST_WORDS:
         raise TooGreat(MOST_WORDS)
-    deeps = [1] * LETTERS
-    deeps[letter] = deep_in(other)
-    if deep_with(saying, deeps) > MOST_DEEP:
+    if deep > MOST_DEEP:
         raise TooGreat(MOST_DEEP)
     table = [("letter", index) for index in range(LETTERS)]
     table[letter] = other

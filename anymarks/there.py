@@ -5,9 +5,8 @@ from anymarks.forms import MOST_FACT_DEEP, MOST_FACT_WORDS, NOWHERE, form_worlds
 from anymarks.inward import turned
 from anymarks.sayings import need_saying
 from anymarks.shapes import numbered_row, rows_in_shape
-from anymarks.walks import opened
 from anymarks.webs import need_web, turned_way
-from anymarks.words import LETTERS, deep_with, joined, replaced, words_with
+from anymarks.words import LETTERS, joined, joined_size, replaced, size_with
 
 
 class Reading:
@@ -21,29 +20,26 @@ class Reading:
     def __init__(self, row):
         self.tree = tuple(row.tree)
         self.order = row.letters_in_order()
-        self.letters = [[] for _ in range(LETTERS)]
-        for place, box in row.boxes:
-            steps, head = opened(box)
-            self.letters[head].append(_set_of(place, steps))
+        self.letters = {}
+        for place, piece, _ in row.boxes:
+            self.letters.setdefault(piece.core[1], []).append(_set_of(place, piece.steps))
         self.facts = [[end for end in ends if not self._is_nowhere(end)] for ends in row.ends]
 
     def _is_nowhere(self, end):
         """Tell whether an end becomes "no": it is "no" itself, or a letter that heads no box."""
-        return end == NOWHERE or (end[0] == "letter" and end[1] not in self.order)
+        return end == NOWHERE or (end[0] == "letter" and end[1] not in self.letters)
 
-    def letter_words(self):
-        """Return how many words there are in what each letter becomes."""
-        words = [1] * LETTERS
+    def letter_sizes(self):
+        """Return the list of (WORDS, DEEP) of what each letter becomes."""
+        sizes = [(1, 1)] * LETTERS
         for letter in self.order:
-            words[letter] = _words_together(self.letters[letter], words)
-        return words
+            sizes[letter] = _size_together(self.letters[letter], sizes)
+        return sizes
 
-    def letter_deeps(self):
-        """Return how deep it is what each letter becomes."""
-        deeps = [1] * LETTERS
-        for letter in self.order:
-            deeps[letter] = _deep_together(self.letters[letter], deeps)
-        return deeps
+    def fact_sizes(self):
+        """Return the list of (WORDS, DEEP) of the facts of the clause."""
+        sizes = self.letter_sizes()
+        return [_size_together(ends, sizes) for ends in self.facts]
 
     def letter_facts(self):
         """Return what each letter becomes."""
@@ -51,16 +47,6 @@ class Reading:
         for letter in self.order:
             table[letter] = _put_together(self.letters[letter], table)
         return tuple(table)
-
-    def fact_words(self):
-        """Return how many words the facts of the clause have."""
-        words = self.letter_words()
-        return sum([_words_together(ends, words) for ends in self.facts])
-
-    def fact_deep(self):
-        """Return how deep the deepest fact of the clause is."""
-        deeps = self.letter_deeps()
-        return max([_deep_together(ends, deeps) for ends in self.facts])
 
     def clause(self):
         """Return the clause."""
@@ -86,34 +72,25 @@ def _put_together(parts, table):
     return joined("or", [replaced(part, "letter", table) for part in parts])
 
 
-def _words_together(parts, words):
-    """Return how many words the parts put together have, words[I] for each letter I."""
-    between = len(parts) - 1 if parts else 1
-    return between + sum([words_with(part, words) for part in parts])
-
-
-def _deep_together(parts, deeps):
-    """Return how deep the parts put together are, each letter I being deeps[I] deep."""
+def _size_together(parts, sizes):
+    """Return (WORDS, DEEP) of the parts put together, each letter I being of the size sizes[I]."""
     if not parts:
-        return 1
-    deep = deep_with(parts[-1], deeps)
-    for part in parts[:-1][::-1]:
-        deep = 1 + max(deep, deep_with(part, deeps))
-    return deep
+        return (1, 1)
+    return joined_size([size_with(part, sizes) for part in parts])
 
 
-def _need_small(words, deep):
-    if words > MOST_FACT_WORDS:
+def _need_small(sizes):
+    """TooGreat if things of these sizes have too many words in all, or if one of them is too deep."""
+    if sum([words for words, _ in sizes]) > MOST_FACT_WORDS:
         raise TooGreat(MOST_FACT_WORDS)
-    if deep > MOST_FACT_DEEP:
+    if max([deep for _, deep in sizes]) > MOST_FACT_DEEP:
         raise TooGreat(MOST_FACT_DEEP)
 
 
 def readings_of(saying):
     """Return the list of the Readings of all rows of choices, with the errors of form_of."""
     readings = [Reading(row) for row in rows_in_shape(saying)]
-    words = sum([reading.fact_words() for reading in readings])
-    _need_small(words, max([reading.fact_deep() for reading in readings]))
+    _need_small([size for reading in readings for size in reading.fact_sizes()])
     return readings
 
 
@@ -125,7 +102,7 @@ def form_of(saying):
 def facts_of(saying, number):
     """Return the tuple of eight facts that the letters become in the row with this number."""
     reading = Reading(numbered_row(saying, number))
-    _need_small(sum(reading.letter_words()), max(reading.letter_deeps()))
+    _need_small(reading.letter_sizes())
     return reading.letter_facts()
 
 

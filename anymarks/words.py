@@ -115,19 +115,33 @@ def deep_of(saying):
     return len(levels_of(saying))
 
 
-def words_with(saying, words):
-    """Return how many words a saying has with something of words[I] words for each letter I."""
-    return sum([words[word[1]] if word[0] == "letter" else 1 for word in words_of(saying)])
-
-
-def deep_with(saying, deeps):
-    """Return how deep a saying is with something deeps[I] deep for each letter I."""
+def size_of(saying):
+    """Return (WORDS, DEEP) of a saying, fact or term."""
     levels = levels_of(saying)
-    found = len(levels)
-    for above, level in enumerate(levels):
-        below = [deeps[word[1]] for word in level if word[0] == "letter"]
-        found = max(found, above + max(below, default=1))
-    return found
+    return (sum([len(level) for level in levels]), len(levels))
+
+
+def size_with(saying, sizes):
+    """Return (WORDS, DEEP) of a saying with something of the size sizes[I] for each letter I."""
+    word = saying[0]
+    if word == "letter":
+        return sizes[saying[1]]
+    if len(saying) < 3 and word != "not":
+        return (1, 1)
+    words, deep = size_with(saying[-1], sizes)
+    if len(saying) < 3 or word == "each" or word == "some":
+        return (words + 1, deep + 1)
+    more, deeper = size_with(saying[1], sizes)
+    return (words + more + 1, max(deep, deeper) + 1)
+
+
+def joined_size(sizes):
+    """Return (WORDS, DEEP) of what has these sizes, put together to the right."""
+    words, deep = sizes[-1]
+    for more, deeper in sizes[-2::-1]:
+        words = words + more + 1
+        deep = max(deep, deeper) + 1
+    return (words, deep)
 
 
 def letters_of(sayings):
@@ -151,6 +165,6 @@ def replaced(saying, word, table):
 def joined(word, things):
     """Return one or several things put together by the word, "and" or "or", to the right."""
     told = things[-1]
-    for thing in things[:-1][::-1]:
+    for thing in things[-2::-1]:
         told = (word, thing, told)
     return told
