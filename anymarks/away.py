@@ -2,7 +2,7 @@
 
 from anymarks.basics import is_number, is_tuple
 from anymarks.errors import BadLetter, BadPaper, BadParameter, MarkError, Stuck, TooGreat
-from anymarks.lots import is_move, lot_of_row, need_lot, read_lot, words_in_line
+from anymarks.lots import is_move, lot_of_row, need_lot, need_room, read_lot
 from anymarks.sayings import is_letter
 from anymarks.shapes import numbered_row
 from anymarks.words import LETTERS, joined, letters_of, replaced, size_of, size_with, words_of
@@ -34,20 +34,37 @@ def put_away_from(held, letter, side):
     """Put a letter away from a Lot; Stuck if that cannot be done, TooGreat if the result is no lot."""
     own, word, without = SIDES[side]
     alone = ("letter", letter)
-    going = [line for line in held.lines if line[own] == alone]
-    staying = [line for line in held.lines if line[own] != alone]
-    told = joined(word, [line[1 - own] for line in going]) if going else (without,)
-    marked = [line for line in staying if alone in words_of(line[0]) or alone in words_of(line[1])]
-    if alone in words_of(told) or any([_is_against(line, own, alone) for line in marked]):
+    going = [line[1 - own] for line in held.lines if line[own] == alone]
+    told = joined(word, going) if going else (without,)
+    # Of the lines that stay those without the letter stay as they are.
+    staying = [
+        (line, words, _has_letter(line, alone))
+        for line, words in zip(held.lines, held.words) if line[own] != alone
+    ]
+    if alone in words_of(told) or any([has and _is_against(line, own, alone) for line, _, has in staying]):
         raise Stuck(letter)
     sizes = [(1, 1)] * LETTERS
     sizes[letter] = size_of(told)
-    found = [size_with(term, sizes) for line in marked for term in line]
-    words = held.words + sum([more for more, _ in found]) - sum([words_in_line(line) for line in going + marked])
-    held.need_room(len(staying), words, max([deep for _, deep in found], default=0))
+    found = [_line_size_with(line, sizes) if has else (words, 0) for line, words, has in staying]
+    words = [many for many, _ in found]
+    need_room(words, max([deep for _, deep in found], default=0))
     table = [("letter", other) for other in range(LETTERS)]
     table[letter] = told
-    held.take([tuple([replaced(term, "letter", table) for term in line]) for line in staying], words)
+    held.take(tuple([_line_with(line, table) if has else line for line, _, has in staying]), words)
+
+
+def _has_letter(line, alone):
+    return alone in words_of(line[0]) or alone in words_of(line[1])
+
+
+def _line_size_with(line, sizes):
+    words, deep = size_with(line[0], sizes)
+    more, deeper = size_with(line[1], sizes)
+    return (words + more, max(deep, deeper))
+
+
+def _line_with(line, table):
+    return (replaced(line[0], "letter", table), replaced(line[1], "letter", table))
 
 
 def _is_against(line, own, alone):

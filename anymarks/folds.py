@@ -73,8 +73,10 @@ class Folding:
     def __init__(self, web, image, ways, classes):
         self.size = web[0]
         self.image_size = image[0]
-        own = classes[self.size:]
-        self.choices = [[there for there, other in enumerate(own) if other == number] for number in classes[:self.size]]
+        own = {}
+        for there, number in enumerate(classes[self.size:]):
+            own.setdefault(number, []).append(there)
+        self.choices = [own.get(number, []) for number in classes[:self.size]]
         self.leads = leads_of(web)
         image_leads = leads_of(image)
         self.there = {way: [_bits_of(row) for row in image_leads[way]] for way in ways}

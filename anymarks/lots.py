@@ -7,7 +7,7 @@ from anymarks.inward import turned
 from anymarks.sayings import Cases, marked_where, marks_of, need_marking
 from anymarks.shapes import numbered_row
 from anymarks.webs import leads_of, need_web, turned_way
-from anymarks.words import LETTERS, Walk, deep_of, words_of
+from anymarks.words import LETTERS, Walk, size_of, words_of
 
 MOST_LINES = 30
 MOST_TERM_WORDS = 2000
@@ -44,17 +44,23 @@ def read_lot(value):
     if not is_tuple(value, 0, MOST_LINES):
         raise BadLot(())
     walk = _term_walk()
+    words = []
     for number, line in enumerate(value):
         if not is_tuple(line, 2, 2):
             raise BadLot((number,))
+        ahead = walk.met
         for side, term in enumerate(line):
             if walk.wrong_path(term, MOST_PLACES) is not None:
                 raise BadLot((number, side))
-    return Lot(value, walk.met)
+        words.append(walk.met - ahead)
+    return Lot(value, words)
 
 
 class Lot:
-    """A lot that is changed step by step: its words are counted once, then what changes alone."""
+    """A lot that is changed step by step: all words are counted once, then those of new lines alone.
+
+    words has for each line how many words its terms have.
+    """
 
     def __init__(self, lines, words):
         self.lines = lines
@@ -72,41 +78,42 @@ class Lot:
     def moves_at(self, place):
         """Return the ascending tuple of the words that fit the line with this index."""
         first, second = self.lines[place]
-        outer = (first[0], second[0])
         return tuple([
             word for word, before, behind in MOVES
-            if before in (None, outer[0]) and behind in (None, outer[1])
+            if before in (None, first[0]) and behind in (None, second[0])
         ])
 
     def move(self, place, word):
         """Do a move; NoRow if it does not fit, TooGreat if the result is no lot."""
         if word not in self.moves_at(place):
             raise NoRow()
-        line = self.lines[place]
-        told = _moved_line(line, word)
-        words = self.words - words_in_line(line) + sum([words_in_line(other) for other in told])
-        deep = max([deep_of(term) for other in told for term in other])
-        self.need_room(len(self.lines) - 1 + len(told), words, deep)
+        told = _moved_line(self.lines[place], word)
+        sizes = [line_size(line) for line in told]
+        words = self.words[:place] + [many for many, _ in sizes] + self.words[place + 1:]
+        need_room(words, max([deep for _, deep in sizes]))
         self.take(self.lines[:place] + told + self.lines[place + 1:], words)
 
-    def need_room(self, many, words, deep):
-        """TooGreat unless so many lines of so many words, the new ones so deep, are a lot."""
-        if many > MOST_LINES:
-            raise TooGreat(MOST_LINES)
-        if words > MOST_TERM_WORDS:
-            raise TooGreat(MOST_TERM_WORDS)
-        if deep > MOST_TERM_DEEP:
-            raise TooGreat(MOST_TERM_DEEP)
-
     def take(self, lines, words):
-        """Take other lines, of so many words."""
-        self.lines = tuple(lines)
+        """Take other lines, and how many words they have."""
+        self.lines = lines
         self.words = words
 
 
-def words_in_line(line):
-    """Return how many words the terms of a line have."""
-    return len(words_of(line[0])) + len(words_of(line[1]))
+def line_size(line):
+    """Return (WORDS, DEEP) of a line: of both terms in all, and of the deeper one."""
+    words, deep = size_of(line[0])
+    more, deeper = size_of(line[1])
+    return (words + more, max(deep, deeper))
+
+
+def need_room(words, deep):
+    """TooGreat unless lines of so many words each, the new ones so deep, are a lot."""
+    if len(words) > MOST_LINES:
+        raise TooGreat(MOST_LINES)
+    if sum(words) > MOST_TERM_WORDS:
+        raise TooGreat(MOST_TERM_WORDS)
+    if deep > MOST_TERM_DEEP:
+        raise TooGreat(MOST_TERM_DEEP)
 
 
 def is_move(value):
@@ -174,12 +181,10 @@ def lot_of_row(row):
     lines = [(("here", place), box) for place, box in row.met_boxes()]
     for place, ends in enumerate(row.ends):
         lines.extend([(("here", place), turned(end, True)) for end in ends])
-    held = Lot((), 0)
-    words = sum([words_in_line(line) for line in lines])
+    words = [line_size(line)[0] for line in lines]
     # Neither a box nor an end is much deeper than a saying may be.
-    held.need_room(len(lines), words, 0)
-    held.take(lines, words)
-    return held
+    need_room(words, 0)
+    return Lot(tuple(lines), words)
 
 
 def moves_at(lot, place):

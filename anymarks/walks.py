@@ -16,7 +16,8 @@ class Piece:
 
     def __init__(self, steps, core):
         self.steps = steps
-        self.denied, self.core, _ = core
+        self.denied = core[0]
+        self.core = core[1]
 
     def is_box(self):
         """Tell whether the piece is a box."""
