@@ -1,7 +1,7 @@
 """Closures of webs whose arrows go through, and sayings that tell webs outside."""
 
 from anymarks.basics import is_tuple
-from anymarks.errors import BadParameter, NoRow, TooGreat
+from anymarks.errors import BadParameter, NoRow
 from anymarks.folds import classes_of, need_few_maps
 from anymarks.parts import closed_part, put_beside
 from anymarks.pictures import folds_onto, need_through, picture, rooted_worlds

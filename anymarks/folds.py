@@ -73,13 +73,12 @@ class Folding:
     def __init__(self, web, image, ways, classes):
         self.size = web[0]
         self.image_size = image[0]
-        own = {}
-        for there, number in enumerate(classes[self.size:]):
-            own.setdefault(number, []).append(there)
-        self.choices = [own.get(number, []) for number in classes[:self.size]]
+        self.ways = ways
         self.leads = leads_of(web)
-        image_leads = leads_of(image)
-        self.there = {way: [_bits_of(row) for row in image_leads[way]] for way in ways}
+        self.image_leads = leads_of(image)
+        self.there = {way: [_bits_of(row) for row in self.image_leads[way]] for way in ways}
+        own = classes[self.size:]
+        self.choices = [self._choices(world, number, own) for world, number in enumerate(classes[:self.size])]
         # What can be asked as soon as a world has its own one: the arrows whose later world
         # it is, and the worlds of which it is the last one that is led to.
         self.arrows = [[] for _ in range(self.size)]
@@ -90,10 +89,17 @@ class Folding:
                 for other in row:
                     self.arrows[max(world, other)].append((way, world, other))
 
+    def _choices(self, world, number, own):
+        """Return the list of the worlds of the image of a class that lead to no more worlds than this one."""
+        return [there for there, other in enumerate(own) if other == number and self._has_enough(world, there)]
+
+    def _has_enough(self, world, there):
+        return all([len(self.leads[way][world]) >= len(self.image_leads[way][there]) for way in self.ways])
+
     def folds(self, begun, most):
         """Return the list of the first folds, ascending, that begin as begun, at most so many."""
         found = []
-        waiting = list(begun)
+        waiting = list(begun) if [] not in self.choices else []
         while waiting and len(found) < most:
             told = waiting.pop()
             if len(told) < self.size:

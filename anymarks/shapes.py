@@ -110,6 +110,8 @@ class Row:
 def _ordered(needed):
     """Return the tuple of the letters in their order; NoShape for letters needed for themselves."""
     waiting = sorted(needed)
+    if not any(needed.values()):
+        return tuple(waiting)
     placed = []
     while waiting:
         free = [letter for letter in waiting if not any([other in waiting for other in needed[letter]])]

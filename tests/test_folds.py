@@ -87,6 +87,9 @@ class TestIsFold(Refusals, unittest.TestCase):
         self.assertIs(is_fold((2, ()), (2, ()), False, (0, 0)), False)
         self.assertIs(is_fold((2, ()), (2, ()), False, (1, 0)), True)
         self.assertIs(is_fold((2, ()), (3, ()), True, (0, 1)), False)
+        # As many unlike worlds as the image has, but not all of them are in it.
+        for value in ((0, 2), (2, 0), (1, 2), (0, 3), (0, -1), (-1, 1), (0, 10 ** 30)):
+            self.assertIs(is_fold((2, ()), (2, ()), False, value), False)
 
     def test_kinds(self):
         web = (2, ((0, 0, 1), (1, 1, 0)))

@@ -3,7 +3,7 @@
 import random
 import unittest
 
-from anymarks.errors import BadLot, BadParameter, NoRow, TooGreat
+from anymarks.errors import BadLot, BadParameter, TooGreat
 from anymarks.inward import inward
 from anymarks.lots import lot_keeps, moved, moves_at, need_lot
 from tests.helpers import (

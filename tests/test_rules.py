@@ -62,6 +62,14 @@ class TestRules(unittest.TestCase):
                 else:
                     self.defined(node.module, alias.name)
 
+    def test_imports_are_used(self):
+        for path in FILES:
+            tree = tree_of(path)
+            named = {node.id for node in ast.walk(tree) if isinstance(node, ast.Name)}
+            for node in ast.walk(tree):
+                if isinstance(node, ast.ImportFrom):
+                    self.assertTrue({alias.name for alias in node.names} <= named, f"{path.name}:{node.lineno}")
+
     def defined(self, module, name):
         package, file = module.split(".")
         self.assertEqual(package, "anymarks")

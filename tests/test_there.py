@@ -305,6 +305,26 @@ class TestBounds(Refusals, unittest.TestCase):
         self.refused(TooGreat, "most", 2000, form_of, gives([*boxes, somes(2, Q)], end))
         self.assertEqual(form_of(gives([somes(7, Q)], NO)), ((tuple((place, 0) for place in range(7)), (NO,) * 8),))
 
+    def test_words_of_what_is_put_together(self):
+        # Two ends at one world, of 77 and 76 letters that become 12 words each: 1,000 words, 987 and the somes.
+        for more, fits in ((11, True), (12, True), (13, False)):
+            met = ("and", eaches(11, P), ("not", halved("or", [P] * 77)))
+            saying = ("not", ("and", met, ("not", somes(more, halved("or", [P] * 76)))))
+            if fits:
+                self.assertEqual(plain_size(form_of(saying)[0][1][0])[0], 1988 + more)
+            else:
+                self.refused(TooGreat, "most", 2000, form_of, saying)
+        # A letter with two sets, of as many words as eaches and one, and an "or".
+        for first, second, letters, fits in ((9, 10, 87, True), (9, 9, 91, False), (9, 9, 90, True)):
+            saying = gives([eaches(first, P), eaches(second, P)], halved("or", [P] * letters))
+            words = letters * (first + second + 4) - 1
+            self.assertEqual(fits, words <= 2000)
+            if fits:
+                self.assertEqual(plain_size(form_of(saying)[0][1][0])[0], words)
+            else:
+                self.assertEqual(words, 2001)
+                self.refused(TooGreat, "most", 2000, form_of, saying)
+
     def test_a_hundred_deep(self):
         for deep in (99, 100):
             form = form_of(of_depth(deep))
