@@ -618,3 +618,11 @@ def plain_words(value):
 def plain_deep(value):
     """How deep a saying, a fact or a term is."""
     return 1 + max([plain_deep(part) for part in value if isinstance(part, tuple)], default=0)
+
+
+def to_the_right(word, things):
+    """Things put together by the word: S, T and U become (word, S, (word, T, U))."""
+    told = things[-1]
+    for thing in things[-2::-1]:
+        told = (word, thing, told)
+    return told

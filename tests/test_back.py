@@ -12,7 +12,8 @@ from anymarks.shapes import in_shape, need_shape
 from anymarks.there import form_of, kept_worlds, same_forms
 from tests.helpers import (
     NO, P, Q, R, YES, Refusals, Touchy, bush, chain, form_by, halved, no_tuples, plain_deep, plain_failing,
-    plain_letters, plain_words, shaped_by, small_webs, tall_fact, tree_by, wide_fact,
+    plain_letters, plain_words, shaped_by, small_webs, tall_fact, to_the_right, tree_by,
+    wide_fact,
 )
 
 LETTERS = [("letter", letter) for letter in range(8)]
@@ -38,22 +39,15 @@ def plain_saying(form):
             for child, (parent, way) in enumerate(tree, start=1):
                 if parent == place:
                     parts.append(("some", way, asked(child)))
-            return to_the_right(parts)
+            return to_the_right("and", parts)
         told.append(("not", asked(0)))
-    return to_the_right(told)
+    return to_the_right("and", told)
 
 
 def lettered(fact):
     if fact[0] == "here":
         return LETTERS[fact[1]]
     return tuple(lettered(part) if isinstance(part, tuple) else part for part in fact)
-
-
-def to_the_right(things):
-    told = things[-1]
-    for thing in things[-2::-1]:
-        told = ("and", thing, told)
-    return told
 
 
 class TestSayingOf(Refusals, unittest.TestCase):

@@ -12,7 +12,7 @@ from anymarks.sayings import deep_in, need_saying, words_in
 from anymarks.there import form_of, kept_worlds
 from tests.helpers import (
     NO, P, Q, R, YES, Refusals, all_webs, form_by, halved, no_tuples, plain_deep, plain_failing,
-    plain_letters, plain_words, small_webs, tall_fact, tree_by, web_by, wide_fact,
+    plain_letters, plain_words, small_webs, tall_fact, to_the_right, tree_by, web_by, wide_fact,
 )
 
 LETTERS = [("letter", letter) for letter in range(8)]
@@ -75,16 +75,9 @@ def plain_clause_saying(clause):
         for child, (parent, way) in enumerate(tree, start=1):
             if parent == place:
                 parts.append(("some", way, asked(child)))
-        return to_the_right(parts)
+        return to_the_right("and", parts)
 
     return ("not", asked(0))
-
-
-def to_the_right(things):
-    told = things[-1]
-    for thing in things[-2::-1]:
-        told = ("and", thing, told)
-    return told
 
 
 def ways_in(saying):
@@ -216,7 +209,7 @@ class TestForwardSaying(Refusals, unittest.TestCase):
             if "great" in sayings:
                 self.refused(TooGreat, "most", 8, forward_saying, form)
                 continue
-            saying = to_the_right(sayings)
+            saying = to_the_right("and", sayings)
             if plain_words(saying) > 400:
                 self.refused(TooGreat, "most", 400, forward_saying, form)
             elif plain_deep(saying) > 40:

@@ -12,6 +12,7 @@ from anymarks.sayings import holds, need_saying
 from anymarks.webs import need_web
 from tests.helpers import (
     LINE, P, Refusals, Touchy, all_markings, all_webs, no_numbers, no_tuples, plain_words, plainly_led, small_webs,
+    to_the_right,
 )
 from tests.test_folds import plain_folds
 from tests.test_parts import web_wrong
@@ -64,13 +65,6 @@ def plain_part(web, world):
     worlds = [world, *[there for there in plainly_led(web, 0, world) if there != world]]
     arrows = sorted((0, worlds.index(start), worlds.index(end)) for _, start, end in web[1] if start in worlds)
     return (len(worlds), tuple(arrows))
-
-
-def to_the_right(word, things):
-    told = things[-1]
-    for thing in things[-2::-1]:
-        told = (word, thing, told)
-    return told
 
 
 def plain_picture(web):

@@ -12,7 +12,7 @@ from anymarks.there import facts_of, form_of, kept_worlds, same_forms
 from tests.helpers import (
     GREAT_WEB, LINE, NO, P, Q, R, YES, OddInteger, Refusals, Touchy, bush, chain, eaches, halved, needs,
     no_numbers, no_tuples, plain_box, plain_circles, plain_failing, plain_letters, plain_rows, plainly_negative,
-    saying_by, shaped_by, small_webs, somes,
+    saying_by, shaped_by, small_webs, somes, to_the_right,
 )
 
 NOT_P, NOT_Q = ("not", P), ("not", Q)
@@ -67,12 +67,7 @@ def plain_facts(row):
 
 
 def put_together(facts):
-    if not facts:
-        return NO
-    told = facts[-1]
-    for fact in facts[-2::-1]:
-        told = ("or", fact, told)
-    return told
+    return to_the_right("or", facts) if facts else NO
 
 
 class TestFormOf(Refusals, unittest.TestCase):
